@@ -1,0 +1,129 @@
+"""Calls of all functions, [0.1] and [0.2]: names of arguments, wrong nets first, nothing changed, plain results."""
+
+import importlib
+import inspect
+import unittest
+from itertools import permutations
+
+from fifthhost import errors
+from tests.common import NET_ERRORS, R, S, TRIANGLES, Case, alike, frozen, plain
+
+# For each file its functions, each with the names of its arguments, right ones, and wrong ones for all but the net.
+FUNCTIONS = {
+    "nets": {
+        "made_net": ("thing", (R,), ()),
+        "is_net": ("thing", (R,), ()),
+    },
+    "netedits": {
+        "with_votes": ("net x votes", (R, 1, 7), (5, -1)),
+        "with_need": ("net need", (R, 7), (0,)),
+        "with_link": ("net a b", (R, 3, 1), (5, 5)),
+        "without_link": ("net a b", (R, 2, 1), (5, 5)),
+        "with_host": ("net votes", (R, 7), (-1,)),
+        "cut_net": ("net lot", (R, (0, 3, 4)), ([0],)),
+        "without_host": ("net x", (R, 3), (5,)),
+        "renamed": ("net order", (R, (1, 0, 2, 4, 3)), ([0],)),
+        "beside": ("one two", (R, R), (None,)),
+    },
+    "lots": {
+        "made_lot": ("net thing", (R, (0, 2)), ([0],)),
+        "votes_of": ("net lot", (R, (0, 2)), ([0],)),
+        "hangs": ("net lot", (R, (0, 1)), ([0],)),
+        "works": ("net lot", (R, (0, 1)), ([0],)),
+        "pieces": ("net lot", (R, (0, 1, 3)), ([0],)),
+        "whole": ("net", (R,), ()),
+        "apart": ("one two", ((0, 1), (2, 3)), ()),
+    },
+    "listing": {
+        "lots": ("net", (S,), ()),
+        "working": ("net", (S,), ()),
+        "least_working": ("net", (R,), ()),
+    },
+    "blocks": {
+        "cuts": ("net", (TRIANGLES,), ()),
+        "blocks": ("net", (TRIANGLES,), ()),
+        "kind": ("net block", (TRIANGLES, (2, 3, 4)), ([0],)),
+        "round_of": ("net block", (R, (0, 1, 2, 3, 4)), ([0],)),
+        "hubs_of": ("net block", (((1,) * 5, ((0, 1), (0, 3), (0, 4), (1, 2), (2, 3), (2, 4)), 2), (0, 1, 2, 3, 4)),
+                    ([0],)),
+    },
+}
+NO_NET_WANTED = ("is_net", "apart")
+
+
+def functions():
+    """All functions of the files that are written, as (file, name, function, names, right ones, wrong ones)."""
+    for file, rows in FUNCTIONS.items():
+        module = importlib.import_module("fifthhost." + file)
+        for name, (names, right, wrong) in rows.items():
+            yield file, name, getattr(module, name), names.split(), right, wrong
+
+
+class Calls(Case):
+
+    def test_each_is_defined_in_its_file_with_these_names(self):
+        for file, name, function, names, _, _ in functions():
+            self.assertTrue(inspect.isfunction(function), name)
+            self.assertEqual((function.__module__, function.__name__), ("fifthhost." + file, name))
+            told = inspect.signature(function).parameters.values()
+            self.assertEqual([one.name for one in told], names)
+            for one in told:
+                self.assertEqual((one.kind, one.default), (one.POSITIONAL_OR_KEYWORD, one.empty))
+
+    def test_by_position_by_name_and_mixed(self):
+        for _, name, function, names, right, _ in functions():
+            wanted = function(*right)
+            for first in range(len(names) + 1):
+                rest = list(zip(names, right))[first:]
+                for row in permutations(rest):
+                    self.assertTrue(alike(function(*right[:first], **dict(row)), wanted), name)
+
+    def test_what_is_returned_is_plain_and_the_same_again(self):
+        for _, name, function, _, right, _ in functions():
+            told = function(*right)
+            self.assertTrue(plain(told), name)
+            self.assertTrue(alike(function(*frozen(right)), told), name)
+
+    def test_what_is_handed_in_stays_as_it_was(self):
+        for _, name, function, _, right, wrong in functions():
+            for args in (right, right[:1] + wrong if wrong else right):
+                ahead = frozen(args)
+                try:
+                    function(*args)
+                except errors.Refused:
+                    pass
+                self.assertTrue(alike(args, ahead), name)
+
+    def test_wrong_lists_stay_as_they_were(self):
+        for _, name, function, names, right, _ in functions():
+            if name in NO_NET_WANTED:
+                continue
+            for net in ([[2, 1], [(1, 0), (0, 1)], 1], ([2, 1], [], 1), ((1, [3, 2]), [], []), ((1, 1), ([1, 0],), 1)):
+                ahead = frozen(net)
+                with self.assertRaises(errors.Refused):
+                    function(net, *right[1:])
+                self.assertTrue(alike(net, ahead), name)
+
+    def test_wrong_nets_are_told_first(self):
+        for _, name, function, names, right, wrong in functions():
+            if name in NO_NET_WANTED:
+                continue
+            for net, error, what in NET_ERRORS:
+                self.refuses(getattr(errors, error), what, function, net, *right[1:])
+                if wrong:
+                    self.refuses(getattr(errors, error), what, function, net, *wrong)
+                    self.refuses(getattr(errors, error), what, function, **dict(zip(names, (net,) + wrong)))
+
+    def test_the_second_net_of_beside(self):
+        beside = importlib.import_module("fifthhost.netedits").beside
+        for net, error, what in NET_ERRORS:
+            self.refuses(getattr(errors, error), what, beside, R, net)
+
+    def test_nothing_is_refused_by_is_net(self):
+        is_net = importlib.import_module("fifthhost.nets").is_net
+        for net, _, _ in NET_ERRORS:
+            self.tells(False, is_net, net)
+
+
+if __name__ == "__main__":
+    unittest.main()
