@@ -3,8 +3,13 @@
 
 def near_of(net):
     """For each host of a net the bits of the hosts that are linked to it."""
-    near = [0] * len(net[0])
-    for a, b in net[1]:
+    return near_by(len(net[0]), net[1])
+
+
+def near_by(many, pairs):
+    """For each of so many numbers from 0 on the bits of those that are in a pair with it."""
+    near = [0] * many
+    for a, b in pairs:
         near[a] |= 1 << b
         near[b] |= 1 << a
     return near
@@ -28,6 +33,17 @@ def lot_of(bits):
     return tuple([x for x in range(bits.bit_length()) if (bits >> x) & 1])
 
 
+def many_bits(bits):
+    """How many hosts have these bits."""
+    return f"{bits:b}".count("1")
+
+
+def least_host(bits):
+    """The least of the hosts that have these bits, of which there is one at least."""
+    # A number and its negative have just their lowest bit in common.
+    return (bits & -bits).bit_length() - 1
+
+
 def piece_within(near, bits, seed):
     """The piece of the hosts of bits that has the one host whose bit is the seed."""
     rest = bits ^ seed
@@ -45,8 +61,7 @@ def pieces_within(near, bits):
     pieces = []
     rest = bits
     while rest:
-        # A number and its negative have just their lowest bit in common.
-        piece = piece_within(near, rest, rest & -rest)
+        piece = piece_within(near, rest, 1 << least_host(rest))
         pieces.append(piece)
         rest ^= piece
     return pieces
@@ -54,4 +69,4 @@ def pieces_within(near, bits):
 
 def bits_hang(near, bits):
     """Whether the hosts of bits hang together; no hosts at all do not."""
-    return bits > 0 and piece_within(near, bits, bits & -bits) == bits
+    return bits > 0 and piece_within(near, bits, 1 << least_host(bits)) == bits

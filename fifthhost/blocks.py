@@ -10,13 +10,14 @@ from fifthhost.nets import made_net
 def cuts(net):
     """All cuts of the net, rising."""
     made_net(net)
-    return tuple(cut_hosts(near_of(net)))
+    near = near_of(net)
+    return tuple(cut_hosts(near, every_host(near)))
 
 
-def cut_hosts(near):
-    """All hosts without which the others of their piece fall apart, rising."""
+def cut_hosts(near, bits):
+    """All hosts of bits without which the others of their piece of bits fall apart, rising."""
     found = []
-    for piece in pieces_within(near, every_host(near)):
+    for piece in pieces_within(near, bits):
         for x in lot_of(piece):
             if len(pieces_within(near, piece ^ (1 << x))) > 1:
                 found.append(x)
@@ -26,15 +27,21 @@ def cut_hosts(near):
 def blocks(net):
     """All blocks of the net, in order."""
     made_net(net)
-    return blocks_by(near_of(net))
+    near = near_of(net)
+    return blocks_by(near, every_host(near))
 
 
-def blocks_by(near):
-    """All blocks, in order: what is left of the pieces when they are split at each cut."""
-    found = pieces_within(near, every_host(near))
-    for x in cut_hosts(near):
+def blocks_by(near, bits):
+    """All blocks of the net of the hosts of bits alone, in order."""
+    return in_order(lots_of(blocks_within(near, bits)))
+
+
+def blocks_within(near, bits):
+    """The blocks of the hosts of bits, as bits: what is left of the pieces when they are split at each cut."""
+    found = pieces_within(near, bits)
+    for x in cut_hosts(near, bits):
         found = split_at(near, found, x)
-    return in_order(lots_of(found))
+    return found
 
 
 def split_at(near, found, x):
@@ -61,7 +68,7 @@ def linked_in(net, block):
     # True and 1.0 equal hosts, so the form is asked before the blocks are.
     if type(block) is not tuple or wrong_rising(block, len(near)) is not None:
         raise BadBlock(block)
-    if block not in blocks_by(near):
+    if block not in blocks_by(near, every_host(near)):
         raise BadBlock(block)
     return linked_within(near, block)
 
@@ -101,9 +108,13 @@ def hubbed(linked):
 
 def round_of(net, block):
     """The hosts of a ring in their order round it."""
-    linked = linked_as(net, block, "ring")
-    row = [block[0], linked[block[0]][0]]
-    while len(row) < len(block):
+    return round_from(linked_as(net, block, "ring"), block[0])
+
+
+def round_from(linked, first):
+    """The hosts of a ring round it, from the first one on to the lesser one of its two neighbours."""
+    row = [first, linked[first][0]]
+    while len(row) < len(linked):
         one, two = linked[row[-1]]
         row.append(two if one == row[-2] else one)
     return tuple(row)

@@ -2,6 +2,7 @@
 
 import unittest
 from itertools import combinations
+from random import Random
 
 from fifthhost.errors import Refused
 
@@ -9,6 +10,11 @@ from fifthhost.errors import Refused
 R = ((1, 1, 1, 1, 1), ((0, 1), (0, 4), (1, 2), (2, 3), (3, 4)), 2)
 S = ((3, 0, 2), ((0, 1), (1, 2)), 4)
 TRIANGLES = ((1, 1, 1, 1, 1), ((0, 1), (0, 2), (1, 2), (2, 3), (2, 4), (3, 4)), 2)
+# The two rings of five with a common host, the ring of six with a further host, and the ten hosts of [25].
+RINGS = ((1,) * 9, ((0, 1), (0, 4), (1, 2), (2, 3), (3, 4), (4, 5), (4, 8), (5, 6), (6, 7), (7, 8)), 2)
+TAILED = ((1, 1, 1, 1, 1, 0, 1), ((0, 1), (0, 5), (1, 2), (2, 3), (3, 4), (4, 5), (5, 6)), 2)
+TEN = ((1, 2, 1, 2, 2, 1, 2, 1, 2, 2),
+       ((0, 1), (0, 4), (1, 2), (2, 3), (2, 5), (3, 4), (5, 6), (5, 9), (6, 7), (7, 8), (8, 9)), 3)
 EMPTY = ((), (), 1)
 ONE = ((0,), (), 1)
 
@@ -58,6 +64,48 @@ NET_ERRORS = (
 def linked_net(many, links, votes=None, need=1):
     """A net of so many hosts with these links, one vote each unless votes are told."""
     return (votes or (1,) * many, tuple(sorted(links)), need)
+
+
+def full_net(many, need=2):
+    """A net of so many hosts that are all linked, with one vote each."""
+    return linked_net(many, combinations(range(many), 2), need=need)
+
+
+def round_net(votes, need):
+    """A net of hosts in a ring, in order, with these votes."""
+    many = len(votes)
+    return (tuple(votes), tuple(sorted([(x, x + 1) for x in range(many - 1)] + [(0, many - 1)])), need)
+
+
+def hubs_net(many, need=2, linked=False):
+    """A net of one block of hubs, which are the hosts 0 and 1, linked to one another or not, with one vote each."""
+    return linked_net(many, [(hub, x) for hub in (0, 1) for x in range(2, many)] + [(0, 1)] * linked, need=need)
+
+
+def chained(nets):
+    """The nets with one need as one, the last host of each being the first host of the next one, too."""
+    votes, links = nets[0][0][:1], ()
+    for net in nets:
+        behind = len(votes) - 1
+        votes += net[0][1:]
+        links += tuple((a + behind, b + behind) for a, b in net[1])
+    return (votes, tuple(sorted(links)), nets[0][2])
+
+
+def some_nets(seed, rounds, sizes=(5, 6, 7)):
+    """Nets of all sorts, the same ones for the same seed: some with any links, some that are mostly trees of blocks."""
+    chance = Random(seed)
+    for _ in range(rounds):
+        many = chance.choice(sizes)
+        pairs = list(combinations(range(many), 2))
+        if chance.random() < 0.5:
+            links = chance.sample(pairs, chance.randint(0, len(pairs)))
+        else:
+            links = [(chance.randrange(max(0, x - 3), x), x) for x in range(1, many)]
+            links += chance.sample(pairs, chance.randint(0, min(4, len(pairs))))
+        top = chance.choice((1, 1, 2, 3, 5, 10))
+        votes = tuple(chance.randint(0, top) for _ in range(many))
+        yield (votes, tuple(sorted(set(links))), chance.randint(1, max(1, sum(votes) * 2 // 3)))
 
 
 def all_nets(many):
@@ -143,3 +191,50 @@ def slow_blocks(net):
         if lot in hanging and all(tuple(y for y in lot if y != x) in hanging for x in lot):
             steady.append(lot)
     return tuple(lot for lot in steady if not any(set(lot) < set(other) for other in steady))
+
+
+def slow_working(net):
+    """All working lots of the net, by the words of [6]."""
+    return [lot for lot in slow_lots(len(net[0])) if sum(net[0][x] for x in lot) >= net[2] and slow_hangs(net, lot)]
+
+
+def slow_least(lots):
+    """Those of the lots within which no other one of them lies."""
+    return [lot for lot in lots if not any(set(other) < set(lot) for other in lots)]
+
+
+def slow_once(lots, met=frozenset()):
+    """How many of the lots can be two by two apart, by trying all choices."""
+    best = 0
+    for index, lot in enumerate(lots):
+        if not met & set(lot):
+            best = max(best, 1 + slow_once(lots[index + 1:], met | set(lot)))
+    return best
+
+
+def slow_fewest(many, pairs):
+    """The least number of hues, by trying all of them point by point."""
+    ahead = [[a for a, b in pairs if b == point] for point in range(many)]
+
+    def right(hues, k):
+        """Whether the points behind those that have a hue can get hues below k, too."""
+        if len(hues) == many:
+            return True
+        barred = {hues[a] for a in ahead[len(hues)]}
+        # A hue that no point has is like each other one, so just one such is tried.
+        return any(right(hues + [hue], k) for hue in range(min(k, max(hues, default=-1) + 2)) if hue not in barred)
+
+    k = 0
+    while not right([], k):
+        k += 1
+    return k
+
+
+def apart_pairs(lots):
+    """The pairs of indices of lots that are apart."""
+    return tuple((i, j) for i, j in combinations(range(len(lots)), 2) if not set(lots[i]) & set(lots[j]))
+
+
+def slow_logs(lots):
+    """The least number of logs for the lots, so that two that are apart get unlike ones."""
+    return slow_fewest(len(lots), apart_pairs(lots))

@@ -6,7 +6,7 @@ import unittest
 from itertools import permutations
 
 from fifthhost import errors
-from tests.common import NET_ERRORS, R, S, TRIANGLES, Case, alike, frozen, plain
+from tests.common import FULL_40, NET_ERRORS, R, S, TEN, TRIANGLES, Case, alike, frozen, plain
 
 # For each file its functions, each with the names of its arguments, right ones, and wrong ones for all but the net.
 FUNCTIONS = {
@@ -47,8 +47,37 @@ FUNCTIONS = {
         "hubs_of": ("net block", (((1,) * 5, ((0, 1), (0, 3), (0, 4), (1, 2), (2, 3), (2, 4)), 2), (0, 1, 2, 3, 4)),
                     ([0],)),
     },
+    "longrings": {
+        "ring_right": ("net thing", (R, (1, 2, 3, 4, 0)), ([0],)),
+        "some_ring": ("net", (TRIANGLES,), ()),
+        "long_ring": ("net", (FULL_40,), ()),
+    },
+    "walks": {
+        "walk": ("votes need", ((1, 1, 1, 2, 1), 2), ([0],)),
+        "ring_numbers": ("votes need t", ((1, 1, 1, 2, 1), 2, 3), (2, [0])),
+        "ring_deal": ("votes need t begin", ((1, 1, 1, 2, 1), 2, 3, 4), (2, 3, [0])),
+    },
+    "hues": {
+        "fewest": ("many pairs", (5, R[1]), ([(0, 1)],)),
+        "hued": ("many pairs k", (5, R[1], 4), (R[1], [4])),
+    },
+    "packings": {
+        "packing": ("net", (TEN,), ()),
+        "packing_right": ("net lots", (R, ((2, 3), (0, 1))), ([(0, 1)],)),
+    },
+    "seams": {
+        "is_seam": ("net v side", (TRIANGLES, 2, (3, 4)), (2, [3, 4])),
+        "inner": ("net v side which", (TEN, 5, (6, 7, 8, 9), "logs"), (5, [6], ["logs"])),
+        "threshold": ("net v side which", (TEN, 5, (6, 7, 8, 9), "once"), (5, [6], ["logs"])),
+        "beyond": ("net v side which", (TEN, 5, (6, 7, 8, 9), "logs"), ([5], [6], ["logs"])),
+    },
+    "counts": {
+        "once": ("net", (TEN,), ()),
+        "logs": ("net", (TEN,), ()),
+    },
 }
-NO_NET_WANTED = ("is_net", "apart")
+JUDGES = ("is_net", "ring_right", "packing_right", "is_seam")
+NO_NET_WANTED = JUDGES + ("apart", "walk", "ring_numbers", "ring_deal", "fewest", "hued")
 
 
 def functions():
@@ -119,10 +148,21 @@ class Calls(Case):
         for net, error, what in NET_ERRORS:
             self.refuses(getattr(errors, error), what, beside, R, net)
 
-    def test_nothing_is_refused_by_is_net(self):
-        is_net = importlib.import_module("fifthhost.nets").is_net
-        for net, _, _ in NET_ERRORS:
-            self.tells(False, is_net, net)
+    def test_nothing_is_refused_by_judges(self):
+        for _, name, function, names, right, wrong in functions():
+            if name in JUDGES:
+                self.tells(True, function, *right)
+                for net, _, _ in NET_ERRORS:
+                    self.tells(False, function, net, *right[1:])
+                    if wrong:
+                        self.tells(False, function, net, *wrong)
+                        self.tells(False, function, right[0], *wrong)
+
+    def test_the_same_again_with_other_calls_between(self):
+        rows = [(function, right) for _, _, function, _, right, _ in functions()]
+        told = [function(*right) for function, right in rows]
+        again = [function(*right) for function, right in rows[::-1]][::-1]
+        self.assertTrue(alike(told, again))
 
 
 if __name__ == "__main__":

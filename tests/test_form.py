@@ -12,6 +12,11 @@ LET_BUILTINS = """
 len range enumerate zip min max sum abs sorted reversed int str bool bytes list tuple dict set isinstance ord repr any
 all divmod map iter next type super ValueError KeyError ZeroDivisionError TypeError NotImplemented
 """.split()
+LET_METHODS = """
+append clear copy count endswith extend find get index insert isalnum isalpha isdigit islower isspace isupper items join
+keys ljust lower lstrip partition pop remove replace reverse rfind rjust rpartition rsplit rstrip setdefault split
+splitlines startswith strip update upper values zfill bit_length sort add discard
+""".split()
 LET_LIBRARY = ("heapq", "math", "itertools", "collections")
 
 
@@ -85,6 +90,20 @@ class Form(unittest.TestCase):
                     self.assertIsInstance(node.ctx, ast.Load, (name, node.lineno))
                 if isinstance(node, ast.arg):
                     self.assertFalse(hasattr(builtins, node.arg), (name, node.lineno))
+
+    def test_methods_are_let_or_own(self):
+        own = {node.name for tree in TREES.values() for node in ast.walk(tree) if isinstance(node, ast.FunctionDef)}
+        own |= {node.attr for tree in TREES.values() for node in ast.walk(tree)
+                if isinstance(node, ast.Attribute) and isinstance(node.ctx, ast.Store)}
+        for name, tree in TREES.items():
+            for node in ast.walk(tree):
+                if isinstance(node, ast.Attribute):
+                    self.assertIn(node.attr, own | set(LET_METHODS), (name, node.lineno))
+
+    def test_sets_and_generators(self):
+        for name, tree in TREES.items():
+            for node in ast.walk(tree):
+                self.assertNotIsInstance(node, (ast.GeneratorExp, ast.Set, ast.SetComp, ast.Yield), (name, node))
 
     def test_no_floats_and_no_decorators(self):
         for name, tree in TREES.items():

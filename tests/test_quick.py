@@ -1,16 +1,24 @@
 """Limits, [0.4]: all is told quickly for nets of forty hosts, also with votes and needs of hundreds of figures."""
 
 import unittest
+from itertools import combinations
 from time import perf_counter
 
 from fifthhost.blocks import blocks, cuts, hubs_of, kind, round_of
+from fifthhost.counts import logs, once
 from fifthhost.errors import Refused
+from fifthhost.hues import fewest, hued
 from fifthhost.listing import least_working, lots, working
+from fifthhost.longrings import long_ring, ring_right, some_ring
 from fifthhost.lots import apart, hangs, pieces, votes_of, whole, works
 from fifthhost.netedits import beside, cut_net, renamed, with_host, with_link, with_need, with_votes, without_host
 from fifthhost.netedits import without_link
 from fifthhost.nets import is_net, made_net
-from tests.common import BARE_40, BROAD, FULL_40, LARGE, LARGE_40, RING_40, linked_net
+from fifthhost.packings import packing, packing_right
+from fifthhost.seams import beyond, inner, is_seam, threshold
+from fifthhost.walks import ring_deal, ring_numbers, walk
+from tests.common import (BARE_40, BROAD, FULL_40, LARGE, LARGE_40, RING_40, RINGS, apart_pairs, chained, full_net,
+                          hubs_net, linked_net)
 
 # Far more than a call takes, so that a busy machine does not matter, and far less than trying all lots or ways.
 SECONDS = 2
@@ -20,14 +28,29 @@ HUGE_40 = ((HUGE,) * 40, FULL_40[1], 40 * HUGE)
 CHAIN_40 = linked_net(40, [(x, x + 1) for x in range(39)] + [(x, x + 2) for x in range(0, 38, 2)])
 HUBS_40 = linked_net(40, [(0, 1)] + [(hub, x) for hub in (0, 1) for x in range(2, 40)])
 GRID_40 = linked_net(40, [(x, x + 1) for x in range(39) if x % 8 != 7] + [(x, x + 8) for x in range(32)])
-NETS = (BARE_40, RING_40, FULL_40, LARGE_40, HUGE_40, CHAIN_40, HUBS_40, GRID_40)
+SEVENS = chained([full_net(7, 3)] * 6)
+FOURTEENS = chained([hubs_net(14, 5)] * 3)
+STAR_40 = linked_net(40, [(0, x) for x in range(1, 40)], need=7)
+# Seven hosts that are all linked want the most work with a need of 3, here six times at one host.
+STAR_OF_SEVENS = linked_net(37, {pair for k in range(6) for pair in combinations((0, *range(6 * k + 1, 6 * k + 7)), 2)},
+                            need=3)
+NETS = (BARE_40, RING_40, FULL_40, LARGE_40, HUGE_40, CHAIN_40, HUBS_40, GRID_40, STAR_40, SEVENS, FOURTEENS,
+        STAR_OF_SEVENS, chained([RINGS] * 4), chained([full_net(4)] * 13), chained([hubs_net(5), full_net(5)] * 4))
 
 CALLS = (
     (made_net,), (is_net,), (with_votes, 39, LARGE), (with_need, HUGE), (with_link, 0, 39), (without_link, 0, 39),
     (with_host, 0), (cut_net, ALL_40), (without_host, 20), (renamed, ALL_40[::-1]), (beside, ((), (), 3)),
     (votes_of, ALL_40), (hangs, ALL_40), (works, ALL_40), (pieces, ALL_40[::2]), (whole,), (lots,), (working,),
     (least_working,), (cuts,), (blocks,), (kind, ALL_40), (round_of, ALL_40), (hubs_of, ALL_40),
+    (some_ring,), (long_ring,), (ring_right, ALL_40), (once,), (logs,), (packing,), (packing_right, (ALL_40,)),
+    (is_seam, 0, ALL_40[1:]),
 )
+
+
+def large(net):
+    """The net with votes of hundreds of figures, all unlike, and a need that a few hosts have."""
+    votes = tuple(LARGE + 7 ** (x * 20) for x in range(len(net[0])))
+    return (votes, net[1], net[2] * LARGE + LARGE // 3)
 
 
 class Quick(unittest.TestCase):
@@ -45,6 +68,39 @@ class Quick(unittest.TestCase):
             for function, *others in CALLS:
                 self.within(function, net, *others)
 
+    def test_the_two_numbers_with_large_votes(self):
+        for net in NETS:
+            for function in (once, logs, packing):
+                self.within(function, large(net))
+
+    def test_seams_of_forty_hosts(self):
+        for net in NETS:
+            every = tuple(range(len(net[0])))
+            for one in (net, large(net)):
+                for function in (inner, threshold, beyond):
+                    for which in ("once", "logs"):
+                        self.within(function, one, 0, every[1:], which)
+                        self.within(function, one, every[-1], every[:-1], which)
+
+    def test_walks_of_two_hundred_hosts(self):
+        for votes in ((1,) * 200, (0,) * 199 + (1,), tuple(LARGE + 7 ** x for x in range(200)), (HUGE,) * 200):
+            for part in (1, 2, 3, 7, 199, 200):
+                need = max(1, sum(votes) * part // 200)
+                self.within(walk, votes, need)
+                self.within(ring_numbers, votes, need, 99)
+                self.within(ring_deal, votes, need, 99, 199)
+
+    def test_hues(self):
+        pairs = [apart_pairs(list(combinations(range(many), size))) for many, size in ((9, 2), (9, 1), (7, 3), (7, 2))]
+        for many, some in zip((36, 9, 35, 21), pairs):
+            self.within(fewest, many, some)
+            for k in range(many + 1):
+                self.within(hued, many, some, k)
+        every = tuple(combinations(range(36), 2))
+        self.within(fewest, 36, every)
+        for k in (0, 1, 17, 35, 36, HUGE):
+            self.within(hued, 36, every, k)
+
     def test_nine_hosts(self):
         votes = tuple(LARGE + x for x in range(9))
         net = (votes, tuple((a, b) for a in range(9) for b in range(a + 1, 9)), 4 * LARGE)
@@ -55,8 +111,12 @@ class Quick(unittest.TestCase):
         thing = (BROAD,) * 2
         for wrong in (BROAD, thing, (thing, 1, 2), ((1, 1), BROAD, 1), ((1, 1), (BROAD,), 1), ((BROAD,), (), 1)):
             self.within(made_net, wrong)
-            for function in (kind, round_of, hubs_of, pieces, works, renamed, cut_net):
+            for function in (kind, round_of, hubs_of, pieces, works, renamed, cut_net, ring_right, packing_right):
                 self.within(function, FULL_40, wrong)
+            self.within(is_seam, FULL_40, 0, wrong)
+            self.within(inner, FULL_40, 0, wrong, wrong)
+            self.within(walk, wrong, wrong)
+            self.within(hued, 36, wrong, wrong)
 
     def test_apart_of_many_numbers(self):
         self.within(apart, BROAD[:150000], BROAD[150000:])
