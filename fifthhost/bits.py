@@ -15,6 +15,22 @@ def near_by(many, pairs):
     return near
 
 
+def with_pair(near, a, b):
+    """For each host the bits of those linked to it, with the link of a and b."""
+    more = list(near)
+    more[a] |= 1 << b
+    more[b] |= 1 << a
+    return more
+
+
+def without_pair(near, a, b):
+    """For each host the bits of those linked to it, without the link of a and b."""
+    less = list(near)
+    less[a] &= ~(1 << b)
+    less[b] &= ~(1 << a)
+    return less
+
+
 def every_host(near):
     """The bits of all hosts of a net."""
     return (1 << len(near)) - 1

@@ -1,5 +1,7 @@
 """The forms of single things that many files ask for: numbers, tuples, pairs and rising rows."""
 
+MANY_LOGS = 1000
+
 
 def number_from(thing, least):
     """Whether the thing is a number that is at least the least one."""
@@ -50,6 +52,23 @@ def wrong_pair(things, many):
             return index
         ahead = thing
     return None
+
+
+def rising_from_zero(thing):
+    """Whether the thing is a rising tuple of numbers from 0 on, of any size."""
+    if type(thing) is not tuple:
+        return False
+    ahead = -1
+    for part in thing:
+        if not number_from(part, 0) or part <= ahead:
+            return False
+        ahead = part
+    return True
+
+
+def rule_log(thing):
+    """Whether the thing is a log that may stand in a rule or a house."""
+    return number_below(thing, MANY_LOGS)
 
 
 def smaller_first(a, b):

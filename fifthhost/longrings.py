@@ -1,6 +1,6 @@
 """Rings of a net, and long rings, which have five hosts or more."""
 
-from fifthhost.bits import every_host, least_host, lot_of, many_bits, near_of
+from fifthhost.bits import every_host, least_host, lot_of, many_bits, near_of, without_pair
 from fifthhost.blocks import blocks_within, kind_of, linked_within, round_from
 from fifthhost.forms import number_below
 from fifthhost.nets import is_net, made_net
@@ -98,11 +98,3 @@ def long_links(near, bits):
             if has_long(less, bits):
                 near = less
     return near
-
-
-def without_pair(near, a, b):
-    """For each host its links, without that of a and b."""
-    less = list(near)
-    less[a] &= ~(1 << b)
-    less[b] &= ~(1 << a)
-    return less

@@ -44,6 +44,13 @@ def works(net, lot):
     return hangs(net, lot) and sum_of_votes(net, lot) >= net[2]
 
 
+def working_right(net, near, thing):
+    """Whether the thing, whatever it is, is a working lot of a right net; near tells its links."""
+    if type(thing) is not tuple or wrong_rising(thing, len(near)) is not None:
+        return False
+    return bits_hang(near, bits_of(thing)) and sum_of_votes(net, thing) >= net[2]
+
+
 def pieces(net, lot):
     """The pieces of a lot, by least host."""
     made_lot(net, lot)

@@ -1,8 +1,7 @@
 """Packings: as many working lots as can be two by two apart."""
 
-from fifthhost.bits import bits_hang, bits_of, every_host, lot_of, near_of, pieces_within
-from fifthhost.forms import wrong_rising
-from fifthhost.lots import in_order, lots_of, sum_of_votes
+from fifthhost.bits import bits_of, every_host, lot_of, near_of, pieces_within
+from fifthhost.lots import in_order, lots_of, working_right
 from fifthhost.nets import is_net, made_net
 from fifthhost.oneblock import packed_block
 from fifthhost.tallies import tally_of, with_worth
@@ -22,12 +21,9 @@ def packing_right(net, lots):
     near = near_of(net)
     met = 0
     for lot in lots:
-        if type(lot) is not tuple or wrong_rising(lot, len(near)) is not None:
+        if not working_right(net, near, lot) or bits_of(lot) & met:
             return False
-        bits = bits_of(lot)
-        if bits & met or not bits_hang(near, bits) or sum_of_votes(net, lot) < net[2]:
-            return False
-        met |= bits
+        met |= bits_of(lot)
     return True
 
 

@@ -52,6 +52,11 @@ def check_ring(votes, need, t):
     """Refuse what are no votes round a ring, no need, and no number of logs for each part."""
     check_around(votes)
     check_need(need)
+    check_times(t)
+
+
+def check_times(t):
+    """Refuse what is no number of logs for each part."""
     if not number_from(t, 1) or t > MOST_TIMES:
         raise BadTimes(t)
 

@@ -7,6 +7,7 @@ from itertools import permutations
 
 from fifthhost import errors
 from tests.common import FULL_40, NET_ERRORS, R, S, TEN, TRIANGLES, Case, alike, frozen, plain
+from tests.rulesets import RING_RULE, SEAM_RULE
 
 # For each file its functions, each with the names of its arguments, right ones, and wrong ones for all but the net.
 FUNCTIONS = {
@@ -75,8 +76,36 @@ FUNCTIONS = {
         "once": ("net", (TEN,), ()),
         "logs": ("net", (TEN,), ()),
     },
+    "several": {
+        "each": ("net t", (R, 3), ([0],)),
+    },
+    "rules": {
+        "made_rule": ("net thing", (R, RING_RULE), (["one", 0],)),
+        "is_rule": ("net thing", (R, RING_RULE), (["one", 0],)),
+    },
+    "dealing": {
+        "log_of": ("net rule lot", (TRIANGLES, SEAM_RULE, (2, 3)), (["one", 0], [2, 3])),
+    },
+    "making": {
+        "rule_of": ("net", (TEN,), ()),
+    },
+    "judged": {
+        "used": ("net rule", (R, RING_RULE), (["one", 0],)),
+        "clash": ("net rule", (R, ("one", 7)), (["one", 0],)),
+        "is_right": ("net rule", (R, RING_RULE), (["one", 0],)),
+    },
+    "hardlots": {
+        "hard": ("net", (R,), ()),
+        "is_hard": ("net lots k", (R, ((2, 3), (0, 1)), 1), ([(2, 3)], 0)),
+    },
+    "readers": {
+        "meets_all": ("net lot", (R, (0, 2, 4)), ([0],)),
+        "unseen": ("net lot", (R, (1, 3)), ([0],)),
+        "commands": ("net lot", (R, (0, 1, 2, 3)), ([0],)),
+        "meets_log": ("net rule lot l", (R, RING_RULE, (1, 3), 2), (["one", 0], [0], [0])),
+    },
 }
-JUDGES = ("is_net", "ring_right", "packing_right", "is_seam")
+JUDGES = ("is_net", "ring_right", "packing_right", "is_seam", "is_rule", "is_right", "is_hard")
 NO_NET_WANTED = JUDGES + ("apart", "walk", "ring_numbers", "ring_deal", "fewest", "hued")
 
 

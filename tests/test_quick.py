@@ -6,19 +6,27 @@ from time import perf_counter
 
 from fifthhost.blocks import blocks, cuts, hubs_of, kind, round_of
 from fifthhost.counts import logs, once
+from fifthhost.dealing import log_of
 from fifthhost.errors import Refused
+from fifthhost.hardlots import hard, is_hard
 from fifthhost.hues import fewest, hued
+from fifthhost.judged import clash, is_right, used
 from fifthhost.listing import least_working, lots, working
 from fifthhost.longrings import long_ring, ring_right, some_ring
 from fifthhost.lots import apart, hangs, pieces, votes_of, whole, works
+from fifthhost.making import rule_of
 from fifthhost.netedits import beside, cut_net, renamed, with_host, with_link, with_need, with_votes, without_host
 from fifthhost.netedits import without_link
 from fifthhost.nets import is_net, made_net
 from fifthhost.packings import packing, packing_right
+from fifthhost.readers import commands, meets_all, meets_log, unseen
+from fifthhost.rules import is_rule, made_rule
 from fifthhost.seams import beyond, inner, is_seam, threshold
+from fifthhost.several import each
 from fifthhost.walks import ring_deal, ring_numbers, walk
 from tests.common import (BARE_40, BROAD, FULL_40, LARGE, LARGE_40, RING_40, RINGS, apart_pairs, chained, full_net,
                           hubs_net, linked_net)
+from tests.rulesets import ZERO, nested_has, rule_with
 
 # Far more than a call takes, so that a busy machine does not matter, and far less than trying all lots or ways.
 SECONDS = 2
@@ -43,8 +51,14 @@ CALLS = (
     (votes_of, ALL_40), (hangs, ALL_40), (works, ALL_40), (pieces, ALL_40[::2]), (whole,), (lots,), (working,),
     (least_working,), (cuts,), (blocks,), (kind, ALL_40), (round_of, ALL_40), (hubs_of, ALL_40),
     (some_ring,), (long_ring,), (ring_right, ALL_40), (once,), (logs,), (packing,), (packing_right, (ALL_40,)),
-    (is_seam, 0, ALL_40[1:]),
+    (is_seam, 0, ALL_40[1:]), (each, 99), (rule_of,), (hard,), (is_hard, (ALL_40,), HUGE), (meets_all, ALL_40[::2]),
+    (unseen, ALL_40[::2]), (commands, ALL_40), (made_rule, rule_with(400)), (is_rule, nested_has(60)),
+    (log_of, nested_has(60), ALL_40), (used, ZERO), (clash, ZERO), (is_right, ZERO), (meets_log, ZERO, ALL_40, 0),
 )
+# Sixty seams, one within another, each of which asks the votes of all other hosts.
+SEAMS_60 = ZERO
+for _ in range(60):
+    SEAMS_60 = ("seam", 0, (39,), HUGE, HUGE, ZERO, SEAMS_60)
 
 
 def large(net):
@@ -70,8 +84,9 @@ class Quick(unittest.TestCase):
 
     def test_the_two_numbers_with_large_votes(self):
         for net in NETS:
-            for function in (once, logs, packing):
+            for function in (once, logs, packing, rule_of):
                 self.within(function, large(net))
+            self.within(each, large(net), 99)
 
     def test_seams_of_forty_hosts(self):
         for net in NETS:
@@ -101,6 +116,41 @@ class Quick(unittest.TestCase):
         for k in (0, 1, 17, 35, 36, HUGE):
             self.within(hued, 36, every, k)
 
+    def test_rules(self):
+        lots = tuple((lot, 0) for size in range(1, 5) for lot in list(combinations(range(40), size))[:25000])
+        for rule in (SEAMS_60, rule_with(400), rule_with(401), nested_has(61), ("table", lots), nested_has(10000)):
+            self.within(made_rule, HUGE_40, rule)
+            self.within(is_rule, HUGE_40, rule)
+            for lot in (ALL_40, ALL_40[:3], (0,), ()):
+                self.within(log_of, HUGE_40, rule, lot)
+                self.within(log_of, FULL_40, rule, lot)
+
+    def test_rules_judged(self):
+        nine = tuple(combinations(range(9), 2))
+        table = ("table", tuple((lot, 7) for size in range(1, 10) for lot in combinations(range(9), size)))
+        for votes, need in (((1,) * 9, 1), ((1,) * 9, 5), ((HUGE,) * 9, 3 * HUGE)):
+            seams = rule_with(1)
+            for _ in range(58):
+                seams = ("seam", 0, (8,), need, 1, table, seams)
+            for rule in (ZERO, table, seams, rule_with(400), nested_has(60)):
+                for function in (used, clash, is_right):
+                    self.within(function, (votes, nine, need), rule)
+                self.within(meets_log, (votes, nine, need), rule, (0, 4), 7)
+
+    def test_hard_lots(self):
+        for need in range(1, 8):
+            net = ((LARGE,) * 7, tuple(combinations(range(7), 2)), need * LARGE)
+            self.within(hard, net)
+            for size in range(1, 8):
+                some = tuple(combinations(range(7), size))
+                for k in range(8):
+                    self.within(is_hard, net, some, k)
+        pairs = tuple(combinations(range(9), 2))
+        ones = tuple((x,) for x in range(36))
+        for k in (0, 5, 6, 7, 8, 35, 36, HUGE):
+            self.within(is_hard, ((1,) * 9, pairs, 2), pairs, k)
+            self.within(is_hard, ((1,) * 40, (), 1), ones, k)
+
     def test_nine_hosts(self):
         votes = tuple(LARGE + x for x in range(9))
         net = (votes, tuple((a, b) for a in range(9) for b in range(a + 1, 9)), 4 * LARGE)
@@ -111,8 +161,14 @@ class Quick(unittest.TestCase):
         thing = (BROAD,) * 2
         for wrong in (BROAD, thing, (thing, 1, 2), ((1, 1), BROAD, 1), ((1, 1), (BROAD,), 1), ((BROAD,), (), 1)):
             self.within(made_net, wrong)
-            for function in (kind, round_of, hubs_of, pieces, works, renamed, cut_net, ring_right, packing_right):
+            for function in (kind, round_of, hubs_of, pieces, works, renamed, cut_net, ring_right, packing_right,
+                             each, made_rule, is_rule, used, is_right, meets_all):
                 self.within(function, FULL_40, wrong)
+            for part in (("one", wrong), ("has", wrong, 0, 0), ("has", 0, 0, wrong), ("seam", 0, wrong, 0, 0, 0, 0),
+                         ("ring", wrong, wrong, 1, 0), ("ring", ALL_40, wrong, 1, 0), ("table", wrong), (wrong, wrong)):
+                self.within(is_rule, FULL_40, part)
+            self.within(is_hard, FULL_40, wrong, 0)
+            self.within(is_hard, FULL_40, (wrong,), wrong)
             self.within(is_seam, FULL_40, 0, wrong)
             self.within(inner, FULL_40, 0, wrong, wrong)
             self.within(walk, wrong, wrong)
