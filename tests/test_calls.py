@@ -7,7 +7,10 @@ from itertools import permutations
 
 from fifthhost import errors
 from tests.common import FULL_40, NET_ERRORS, R, S, TEN, TRIANGLES, Case, alike, frozen, plain
+from tests.housesets import H, WHOLE_R
 from tests.rulesets import RING_RULE, SEAM_RULE
+
+MOMENTS = (WHOLE_R, ((0, 1), (2, 3, 4)), ((1, 2),))
 
 # For each file its functions, each with the names of its arguments, right ones, and wrong ones for all but the net.
 FUNCTIONS = {
@@ -104,9 +107,30 @@ FUNCTIONS = {
         "commands": ("net lot", (R, (0, 1, 2, 3)), ([0],)),
         "meets_log": ("net rule lot l", (R, RING_RULE, (1, 3), 2), (["one", 0], [0], [0])),
     },
+    "captains": {
+        "captains": ("net", (R,), ()),
+    },
+    "houses": {
+        "made_house": ("net thing", (R, H), ([H],)),
+    },
+    "playing": {
+        "made_moments": ("net thing", (R, MOMENTS), ([WHOLE_R],)),
+        "play": ("net house moments", (R, H, MOMENTS), ([H], [WHOLE_R])),
+        "forked": ("net house moments", (R, H, MOMENTS), ([H], [WHOLE_R])),
+    },
+    "breaker": {
+        "broken": ("net house", (R, H), ([H],)),
+        "shattered": ("net lots", (R, ((0, 1), (2, 3))), ([(0, 1)],)),
+    },
+    "cells": {
+        "knows_right": ("thing", (((0, 0, 1, 2), (0, 1, 1, 1)),), ()),
+        "row_right": ("thing", ((1, 5, -7, ((0, 0, 1, 2),)),), ()),
+        "cell_right": ("thing", ((3, 2, (0, 2), ((1, 5, -7, ()),), 1),), ()),
+    },
 }
 JUDGES = ("is_net", "ring_right", "packing_right", "is_seam", "is_rule", "is_right", "is_hard")
-NO_NET_WANTED = JUDGES + ("apart", "walk", "ring_numbers", "ring_deal", "fewest", "hued")
+NO_NET_WANTED = JUDGES + ("apart", "walk", "ring_numbers", "ring_deal", "fewest", "hued", "knows_right", "row_right",
+                          "cell_right")
 
 
 def functions():

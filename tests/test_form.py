@@ -105,6 +105,19 @@ class Form(unittest.TestCase):
             for node in ast.walk(tree):
                 self.assertNotIsInstance(node, (ast.GeneratorExp, ast.Set, ast.SetComp, ast.Yield), (name, node))
 
+    def test_tables_of_a_file_are_only_read(self):
+        # A dict or list at the top of a file is not passed on, given another name or changed.
+        for name, tree in TREES.items():
+            tables = {node.targets[0].id for node in tree.body
+                      if isinstance(node, ast.Assign) and isinstance(node.value, (ast.Dict, ast.List))}
+            read = [node.value for node in ast.walk(tree)
+                    if isinstance(node, ast.Subscript) and isinstance(node.ctx, ast.Load)]
+            read += [node.comparators[0] for node in ast.walk(tree)
+                     if isinstance(node, ast.Compare) and isinstance(node.ops[0], (ast.In, ast.NotIn))]
+            for node in ast.walk(tree):
+                if isinstance(node, ast.Name) and node.id in tables and isinstance(node.ctx, ast.Load):
+                    self.assertTrue(any(node is one for one in read), (name, node.id, node.lineno))
+
     def test_no_floats_and_no_decorators(self):
         for name, tree in TREES.items():
             for node in ast.walk(tree):

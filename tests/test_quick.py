@@ -5,10 +5,15 @@ from itertools import combinations
 from time import perf_counter
 
 from fifthhost.blocks import blocks, cuts, hubs_of, kind, round_of
+from fifthhost.breaker import broken, shattered
+from fifthhost.captains import captains
+from fifthhost.cells import cell_right, knows_right, row_right
 from fifthhost.counts import logs, once
 from fifthhost.dealing import log_of
 from fifthhost.errors import Refused
+from fifthhost.falling import Falling
 from fifthhost.hardlots import hard, is_hard
+from fifthhost.houses import made_house
 from fifthhost.hues import fewest, hued
 from fifthhost.judged import clash, is_right, used
 from fifthhost.listing import least_working, lots, working
@@ -19,6 +24,7 @@ from fifthhost.netedits import beside, cut_net, renamed, with_host, with_link, w
 from fifthhost.netedits import without_link
 from fifthhost.nets import is_net, made_net
 from fifthhost.packings import packing, packing_right
+from fifthhost.playing import forked, made_moments, play
 from fifthhost.readers import commands, meets_all, meets_log, unseen
 from fifthhost.rules import is_rule, made_rule
 from fifthhost.seams import beyond, inner, is_seam, threshold
@@ -45,6 +51,11 @@ STAR_OF_SEVENS = linked_net(37, {pair for k in range(6) for pair in combinations
 NETS = (BARE_40, RING_40, FULL_40, LARGE_40, HUGE_40, CHAIN_40, HUBS_40, GRID_40, STAR_40, SEVENS, FOURTEENS,
         STAR_OF_SEVENS, chained([RINGS] * 4), chained([full_net(4)] * 13), chained([hubs_net(5), full_net(5)] * 4))
 
+# A house no test of which holds, but for the last one, and moments with all hosts by themselves.
+HOUSE_40 = ((("votes", 10 ** 4200), ("first",)), (("last", 999), ("first",)), (("many", 41), ("last",))) * 13 + (
+    (("shrunk",), ("last",)),)
+MOMENTS_400 = (tuple((x,) for x in range(35)),) * 400
+
 CALLS = (
     (made_net,), (is_net,), (with_votes, 39, LARGE), (with_need, HUGE), (with_link, 0, 39), (without_link, 0, 39),
     (with_host, 0), (cut_net, ALL_40), (without_host, 20), (renamed, ALL_40[::-1]), (beside, ((), (), 3)),
@@ -54,6 +65,8 @@ CALLS = (
     (is_seam, 0, ALL_40[1:]), (each, 99), (rule_of,), (hard,), (is_hard, (ALL_40,), HUGE), (meets_all, ALL_40[::2]),
     (unseen, ALL_40[::2]), (commands, ALL_40), (made_rule, rule_with(400)), (is_rule, nested_has(60)),
     (log_of, nested_has(60), ALL_40), (used, ZERO), (clash, ZERO), (is_right, ZERO), (meets_log, ZERO, ALL_40, 0),
+    (captains,), (made_house, HOUSE_40), (made_moments, MOMENTS_400), (play, HOUSE_40, MOMENTS_400),
+    (forked, HOUSE_40, MOMENTS_400), (broken, ()), (shattered, ((0,),)), (Falling,),
 )
 # Sixty seams, one within another, each of which asks the votes of all other hosts.
 SEAMS_60 = ZERO
@@ -150,6 +163,43 @@ class Quick(unittest.TestCase):
         for k in (0, 5, 6, 7, 8, 35, 36, HUGE):
             self.within(is_hard, ((1,) * 9, pairs, 2), pairs, k)
             self.within(is_hard, ((1,) * 40, (), 1), ones, k)
+
+    def test_houses_and_moments(self):
+        for net in (FULL_40, HUGE_40, LARGE_40):
+            low = (net[0], net[1], net[2] // 40)
+            for moments in (((ALL_40,),) * 400, ((ALL_40[:20], ALL_40[20:]), (ALL_40[::2], ALL_40[1::2])) * 200,
+                            (tuple((x,) for x in ALL_40),) * 400):
+                for one in (net, low):
+                    for house in (HOUSE_40, (), ((("shrunk",), ("last",)),)):
+                        self.within(play, one, house, moments)
+                        self.within(forked, one, house, moments)
+        self.within(broken, ((HUGE,) * 7, tuple(combinations(range(7), 2)), HUGE), HOUSE_40)
+        self.within(shattered, linked_net(40, list(combinations(range(40), 2))[:199]), (ALL_40[:6],))
+        self.within(shattered, GRID_40, (ALL_40,))
+
+    def test_captains(self):
+        every = tuple(combinations(range(9), 2))
+        for need in range(1, 10):
+            self.within(captains, ((HUGE,) * 9, every, need * HUGE))
+        for links in ([(x, x + 1) for x in range(39)], [(0, x) for x in range(1, 40)], []):
+            self.within(captains, ((HUGE,) * 40, tuple(links), 3 * HUGE))
+
+    def test_nets_that_fall(self):
+        for net in (RING_40, CHAIN_40, STAR_40, BARE_40, SEVENS, FOURTEENS, large(SEVENS), large(RING_40)):
+            try:
+                falling = Falling(net)
+            except Refused:
+                continue
+            for a, b in net[1][::-1]:
+                self.within(falling.cut, a, b)
+                self.within(falling.log, a)
+
+    def test_cells(self):
+        knows = tuple((e, l, HUGE, HUGE) for e in range(200) for l in range(200))
+        row = (HUGE, 999, -HUGE, knows)
+        for judge in (knows_right, row_right, cell_right):
+            for thing in (knows, row, (0, 0, BROAD[:99000], (row,), 0), (0, 0, (), ((1, 0, 0, ()),) * 40000, 0), BROAD):
+                self.within(judge, thing)
 
     def test_nine_hosts(self):
         votes = tuple(LARGE + x for x in range(9))
