@@ -66,8 +66,9 @@ def rule_of_piece(tally, votes, piece, number, l):
 
 
 def rule_of_step(tally, step, l):
-    """A rule for the working lots that a block, which was taken off by this step, holds without its cut's own votes."""
+    """The first rule of the seam of a step: for its block, whose cut has just one vote less than the threshold."""
     block, at, _, least, votes = step
+    # With a threshold of 0 no lot with the cut is asked there.
     if least == 0:
         return rule_within(tally, votes, block ^ (1 << at), l)
     return rule_within(tally, with_worth(votes, at, least - 1), block, l)
