@@ -1,8 +1,25 @@
-"""The forms of what a cluster's hosts keep: knows, rows of a log, and cells."""
+"""The forms of what a cluster's hosts keep: names of logs, knows, rows of a log, and cells."""
 
+from fifthhost.errors import BadName
 from fifthhost.forms import number_below, number_from, rising_from_zero, tuple_of
 
 MANY_KEYS = 1000
+
+
+def name_right(thing):
+    """Whether the thing has the form of the name of a log."""
+    return tuple_of(thing, 2) and all([number_from(part, 0) for part in thing])
+
+
+def check_name(thing):
+    """Refuse what is no name of a log."""
+    if not name_right(thing):
+        raise BadName(thing)
+
+
+def key_right(thing):
+    """Whether the thing is a key."""
+    return number_below(thing, MANY_KEYS)
 
 
 def knows_right(thing):
@@ -21,7 +38,7 @@ def know_right(thing):
     """Whether the thing is (e, l, number, length), as knows have them."""
     if not tuple_of(thing, 4):
         return False
-    return all([number_from(part, 0) for part in thing[:2]]) and all([number_from(part, 1) for part in thing[2:]])
+    return name_right(thing[:2]) and all([number_from(part, 1) for part in thing[2:]])
 
 
 def row_right(thing):
@@ -29,7 +46,12 @@ def row_right(thing):
     if not tuple_of(thing, 4):
         return False
     number, key, value, knows = thing
-    return number_from(number, 1) and number_below(key, MANY_KEYS) and type(value) is int and knows_right(knows)
+    return number_from(number, 1) and key_right(key) and type(value) is int and knows_right(knows)
+
+
+def rows_right(thing):
+    """Whether the thing is a tuple of rows."""
+    return type(thing) is tuple and all([row_right(row) for row in thing])
 
 
 def cell_right(thing):
@@ -39,4 +61,4 @@ def cell_right(thing):
     promise, taken, opener, rows, sure = thing
     if not all([number_from(part, 0) for part in (promise, taken, sure)]) or not rising_from_zero(opener):
         return False
-    return type(rows) is tuple and all([row_right(row) for row in rows])
+    return rows_right(rows)

@@ -8,8 +8,10 @@ from itertools import permutations
 from fifthhost import errors
 from tests.common import FULL_40, NET_ERRORS, R, S, TEN, TRIANGLES, Case, alike, frozen, plain
 from tests.housesets import H, WHOLE_R
+from tests.lettersets import A, B, C, STORY
 from tests.rulesets import RING_RULE, SEAM_RULE
 
+RESTORES = ((2, (3,)),)
 MOMENTS = (WHOLE_R, ((0, 1), (2, 3, 4)), ((1, 2),))
 
 # For each file its functions, each with the names of its arguments, right ones, and wrong ones for all but the net.
@@ -127,10 +129,36 @@ FUNCTIONS = {
         "row_right": ("thing", ((1, 5, -7, ((0, 0, 1, 2),)),), ()),
         "cell_right": ("thing", ((3, 2, (0, 2), ((1, 5, -7, ()),), 1),), ()),
     },
+    "disks": {
+        "made_letters": ("thing", (STORY,), ()),
+        "replay": ("letters", (STORY,), ()),
+    },
+    "restores": {
+        "made_restores": ("net thing", (R, RESTORES), ([(2, (1,))],)),
+        "allowed": ("net x lot", (R, 2, (0, 1, 3, 4)), ([2], [0])),
+        "lost": ("net restores lot", (R, RESTORES, (1, 2)), ([(2, (3,))], [0])),
+        "loss": ("net restores lot", (R, RESTORES, (1, 2)), ([(2, (3,))], [0])),
+        "loss_right": ("net restores lot row", (R, RESTORES, (1, 2), RESTORES), ([(2, (3,))], [0], [(2, (3,))])),
+        "harmful": ("net rule restores", (R, ("one", 4), RESTORES), (["one", 0], [(2, (3,))])),
+        "forgetful": ("net restores", (R, RESTORES), ([(2, (3,))],)),
+    },
+    "before": {
+        "covers": ("one two", (C, B), ()),
+        "fork": ("record", ((B, A, B, A),), ()),
+    },
+    "chains": {
+        "spread": ("record", ((A, B, C),), ()),
+        "chains": ("record", ((A, B, C),), ()),
+    },
+    "records": {
+        "made_record": ("thing", ((A, B, C),), ()),
+        "record_right": ("net rule record", (R, RING_RULE, (A, B, C)), (["one", 0], [(A, B, C)])),
+    },
 }
-JUDGES = ("is_net", "ring_right", "packing_right", "is_seam", "is_rule", "is_right", "is_hard")
+JUDGES = ("is_net", "ring_right", "packing_right", "is_seam", "is_rule", "is_right", "is_hard", "allowed", "loss_right",
+          "record_right")
 NO_NET_WANTED = JUDGES + ("apart", "walk", "ring_numbers", "ring_deal", "fewest", "hued", "knows_right", "row_right",
-                          "cell_right")
+                          "cell_right", "made_letters", "replay", "covers", "fork", "spread", "chains", "made_record")
 
 
 def functions():

@@ -4,6 +4,7 @@ import unittest
 
 from fifthhost.cells import cell_right, knows_right, row_right
 from tests.common import BROAD, DEEP, LARGE, NAN, NO_NUMBERS, NO_TUPLES, Case
+from tests.lettersets import with_part
 
 KNOWS = ((0, 0, 1, 2), (0, 1, 1, 1))
 ROW = (1, 5, -7, KNOWS)
@@ -12,11 +13,6 @@ JUDGES = (knows_right, row_right, cell_right)
 NO_INTS = NO_NUMBERS + NO_TUPLES[5:] + (NAN, BROAD, DEEP, {}, set(), b"")
 # Neither knows, rows of cells, rows nor cells, and no openers, as () and rising numbers are.
 WRONG = NO_TUPLES + tuple(thing for thing in NO_INTS if thing not in ((), (0,), BROAD)) + ((1, 0), ((0,),), (BROAD,))
-
-
-def with_part(thing, index, part):
-    """The tuple with another part at an index."""
-    return thing[:index] + (part,) + thing[index + 1:]
 
 
 class Cells(Case):

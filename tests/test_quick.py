@@ -4,12 +4,16 @@ import unittest
 from itertools import combinations
 from time import perf_counter
 
+from fifthhost.before import covers, fork
 from fifthhost.blocks import blocks, cuts, hubs_of, kind, round_of
 from fifthhost.breaker import broken, shattered
 from fifthhost.captains import captains
 from fifthhost.cells import cell_right, knows_right, row_right
+from fifthhost.chains import chains, spread
+from fifthhost.cluster import Cluster
 from fifthhost.counts import logs, once
 from fifthhost.dealing import log_of
+from fifthhost.disks import made_letters, replay
 from fifthhost.errors import Refused
 from fifthhost.falling import Falling
 from fifthhost.hardlots import hard, is_hard
@@ -26,6 +30,8 @@ from fifthhost.nets import is_net, made_net
 from fifthhost.packings import packing, packing_right
 from fifthhost.playing import forked, made_moments, play
 from fifthhost.readers import commands, meets_all, meets_log, unseen
+from fifthhost.records import record_right
+from fifthhost.restores import allowed, forgetful, harmful, loss, loss_right, lost, made_restores
 from fifthhost.rules import is_rule, made_rule
 from fifthhost.seams import beyond, inner, is_seam, threshold
 from fifthhost.several import each
@@ -55,6 +61,8 @@ NETS = (BARE_40, RING_40, FULL_40, LARGE_40, HUGE_40, CHAIN_40, HUBS_40, GRID_40
 HOUSE_40 = ((("votes", 10 ** 4200), ("first",)), (("last", 999), ("first",)), (("many", 41), ("last",))) * 13 + (
     (("shrunk",), ("last",)),)
 MOMENTS_400 = (tuple((x,) for x in range(35)),) * 400
+# Restores of the row of hosts in which the others follow one another, as they do in most of these nets.
+RESTORES_200 = (tuple((x, (x + 1,)) for x in range(39)) * 6)[:200]
 
 CALLS = (
     (made_net,), (is_net,), (with_votes, 39, LARGE), (with_need, HUGE), (with_link, 0, 39), (without_link, 0, 39),
@@ -66,7 +74,10 @@ CALLS = (
     (unseen, ALL_40[::2]), (commands, ALL_40), (made_rule, rule_with(400)), (is_rule, nested_has(60)),
     (log_of, nested_has(60), ALL_40), (used, ZERO), (clash, ZERO), (is_right, ZERO), (meets_log, ZERO, ALL_40, 0),
     (captains,), (made_house, HOUSE_40), (made_moments, MOMENTS_400), (play, HOUSE_40, MOMENTS_400),
-    (forked, HOUSE_40, MOMENTS_400), (broken, ()), (shattered, ((0,),)), (Falling,),
+    (forked, HOUSE_40, MOMENTS_400), (broken, ()), (shattered, ((0,),)), (Falling,), (Cluster, ZERO),
+    (Cluster, rule_with(400), RESTORES_200), (made_restores, RESTORES_200), (allowed, 0, (1,)), (allowed, 39, ALL_40[:39]),
+    (lost, RESTORES_200, ALL_40), (loss, RESTORES_200, ALL_40[1:]), (loss_right, RESTORES_200, ALL_40, RESTORES_200),
+    (harmful, ZERO, RESTORES_200), (forgetful, RESTORES_200), (record_right, ZERO, ()),
 )
 # Sixty seams, one within another, each of which asks the votes of all other hosts.
 SEAMS_60 = ZERO
@@ -200,6 +211,84 @@ class Quick(unittest.TestCase):
         for judge in (knows_right, row_right, cell_right):
             for thing in (knows, row, (0, 0, BROAD[:99000], (row,), 0), (0, 0, (), ((1, 0, 0, ()),) * 40000, 0), BROAD):
                 self.within(judge, thing)
+
+    def test_clusters(self):
+        for net in NETS:
+            many = len(net[0])
+            try:
+                rule = rule_of(net)
+            except Refused:
+                rule = ZERO
+            c = Cluster(net, rule)
+            for a, b in net[1]:
+                self.within(c.cut, a, b)
+            for a, b in net[1]:
+                self.within(c.mend, a, b)
+            for x in range(0, many, 3):
+                self.within(c.begin, x)
+                self.within(c.put, x, 5, HUGE)
+            for x in (0, many - 1):
+                for method, *args in ((c.change, net[0], net[2]), (c.begin,), (c.put, 7, -HUGE), (c.share,), (c.known,),
+                                      (c.show, 5), (c.read, (0, 0)), (c.letters,), (c.down,), (c.forget,), (c.wipe,), (c.up,),
+                                      (c.restore, 1), (c.part,)):
+                    self.within(method, x, *args)
+            for e in (0, 1):
+                self.within(c.sealed, e)
+                self.within(c.ends, e)
+            self.within(c.final, (0, 0), 1, 0)
+            for method in (c.record, c.parts, c.editions):
+                self.within(method)
+
+    def test_a_cluster_with_a_long_story(self):
+        c = Cluster(((1,) * 40, tuple((x, x + 1) for x in range(39)), 20), ZERO)
+        c.begin(0)
+        begin = perf_counter()
+        for value in range(300):
+            c.put(value % 40, value % 1000, value)
+        self.assertLess(perf_counter() - begin, 5)
+        for step in range(20):
+            self.within(c.change, step, (1 + step % 2,) * 40, 20)
+            self.within(c.begin, 39 - step)
+        self.within(c.share, 0)
+        self.within(c.final, (3, 0), 1, 0)
+        self.within(c.show, 0, 7)
+        c.down(7)
+        for word in ("take", "promise"):
+            self.within(c.forget, 7)
+        c.wipe(7)
+        c.up(7)
+        self.within(c.restore, 7, 8)
+
+    def test_restores_of_small_nets(self):
+        every = tuple(combinations(range(9), 2))
+        for need in (1, 2, 4, 9):
+            net = ((HUGE,) * 9, every, need * HUGE)
+            restores = [(x, lot) for size in (1, 2, 8) for lot in combinations(range(9), size) for x in range(9) if x not in lot]
+            for some in (tuple(restores[:200]), tuple(restores[-200:]), ((0, (1,)),) * 200, ()):
+                self.within(harmful, net, ("has", 0, 0, ("one", 1)), some)
+                self.within(forgetful, net, some)
+
+    def test_letters(self):
+        knows = tuple((e, l, HUGE, HUGE) for e in range(10) for l in range(100))
+        row = (HUGE, 999, -HUGE, knows)
+        for letters in ((("hear", knows),) * 50, (("hold", (0, 0), (1, 0, 0, ())),) * 2000,
+                        (("take", (0, 0), 1, (0,), (row,) * 50),), (("copy", (((0, 0), (0, 0, (), (row,) * 50, 0), (0, 0)),)),),
+                        (("take", (0, 0), 1, (0,), ((1, 0, 0, ()),) * 140),) * 400, (BROAD,), BROAD):
+            self.within(made_letters, letters)
+            self.within(replay, letters)
+
+    def test_records(self):
+        knows = tuple((e, l, HUGE, HUGE) for e in range(10) for l in range(90))
+        entry = (ALL_40, (0, 0), HUGE, HUGE, 0, -HUGE, knows)
+        self.within(covers, entry, entry)
+        below = tuple(tuple((0, i, 1, 1) for i in range(j)) for j in range(60))
+        for record in ((entry,) * 60, tuple(((0,), (0, j), 0, 1, 0, 0, ()) for j in range(60)),
+                       tuple(((0,), (0, j), 0, 1, 0, 0, below[j]) for j in range(60)),
+                       tuple(((0,), (0, j), 0, 1, 0, 0, below[j - j % 20]) for j in range(60)), (BROAD,) * 60, BROAD):
+            for function in (fork, spread, chains):
+                self.within(function, record)
+            for net in (((HUGE,) * 9, tuple(combinations(range(9), 2)), HUGE), FULL_40):
+                self.within(record_right, net, ZERO, record)
 
     def test_nine_hosts(self):
         votes = tuple(LARGE + x for x in range(9))
