@@ -1,7 +1,7 @@
 """The forms of what a cluster's hosts keep: names of logs, knows, rows of a log, and cells."""
 
 from fifthhost.errors import BadName
-from fifthhost.forms import number_below, number_from, rising_from_zero, tuple_of
+from fifthhost.forms import is_number, number_below, number_from, rising_from_zero, tuple_of
 
 MANY_KEYS = 1000
 
@@ -46,7 +46,7 @@ def row_right(thing):
     if not tuple_of(thing, 4):
         return False
     number, key, value, knows = thing
-    return number_from(number, 1) and key_right(key) and type(value) is int and knows_right(knows)
+    return number_from(number, 1) and key_right(key) and is_number(value) and knows_right(knows)
 
 
 def rows_right(thing):

@@ -6,7 +6,7 @@ from fifthhost.dealing import log_by
 from fifthhost.errors import (Already, BadEdition, BadKey, BadNumber, BadPlace, BadValue, BadVotes, Blank, Down,
                               Harmful, NoLetter, NoLink, NotBlank, NotCommanding, NotDown, NotLet, NotOpen, NotSealed,
                               NotSettled, NotWorking, Unruled)
-from fifthhost.forms import number_from, smaller_first, tuple_of, wrong_number
+from fifthhost.forms import is_number, number_from, smaller_first, tuple_of, wrong_number
 from fifthhost.laying import Disk, knows_of
 from fifthhost.lots import lots_of, sum_of_votes
 from fifthhost.making import rule_of
@@ -124,7 +124,7 @@ class Cluster:
         lot = self.part(x)
         if not key_right(key):
             raise BadKey(key)
-        if type(value) is not int:
+        if not is_number(value):
             raise BadValue(value)
         name = self.name_of(lot)
         disks = self.disks_of(lot)

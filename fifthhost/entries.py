@@ -2,7 +2,7 @@
 
 from fifthhost.cells import key_right, knows_right, name_right
 from fifthhost.errors import BadRecord, TooMany
-from fifthhost.forms import number_from, rising_from_zero, tuple_of
+from fifthhost.forms import is_number, number_from, rising_from_zero, tuple_of
 from fifthhost.laying import NO_PAIR
 
 MOST_ENTRIES = 60
@@ -28,7 +28,7 @@ def entry_formed(thing):
         return False
     if not number_from(place, 0) or not number_from(number, 1) or not key_right(key):
         return False
-    return type(value) is int and knows_right(knows)
+    return is_number(value) and knows_right(knows)
 
 
 def pairs_known(entry):

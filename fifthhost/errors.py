@@ -2,10 +2,11 @@
 
 
 class Refused(ValueError):
-    """A call is refused; what it is told for is kept as it was handed over."""
+    """A call is refused; what it is told for is kept as it was handed over, and the name of the error's class."""
 
     def __init__(self, what):
         self.what = what
+        self.name = self.__class__.__name__
 
 
 class BadNet(Refused):

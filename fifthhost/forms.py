@@ -3,9 +3,14 @@
 MANY_LOGS = 1000
 
 
+def is_number(thing):
+    """Whether the thing is a number."""
+    return type(thing) is int
+
+
 def number_from(thing, least):
     """Whether the thing is a number that is at least the least one."""
-    return type(thing) is int and thing >= least
+    return is_number(thing) and thing >= least
 
 
 def number_below(thing, many):

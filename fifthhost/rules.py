@@ -68,9 +68,7 @@ def ring_formed(many, part):
     if len(part) != 5:
         return False
     _, hosts, starts, shared, l = part
-    if type(hosts) is not tuple or not 3 <= len(hosts) <= many or not unlike_hosts(many, hosts):
-        return False
-    if not lot_formed(len(hosts), starts):
+    if not around_formed(many, hosts) or not lot_formed(len(hosts), starts):
         return False
     return number_from(shared, 1) and shared <= len(starts) and rule_log(l)
 
@@ -94,9 +92,11 @@ def lot_formed(many, thing):
     return type(thing) is tuple and thing != () and wrong_rising(thing, many) is None
 
 
-def unlike_hosts(many, things):
-    """Whether all things are numbers below many, and no two of them are alike."""
-    return all([number_below(x, many) for x in things]) and len(set(things)) == len(things)
+def around_formed(many, thing):
+    """Whether the thing is a tuple of three or more unlike numbers below many, as the hosts of rings are."""
+    if type(thing) is not tuple or not 3 <= len(thing) <= many:
+        return False
+    return all([number_below(x, many) for x in thing]) and len(set(thing)) == len(thing)
 
 
 FORMS = {"one": one_formed, "has": has_formed, "seam": seam_formed, "ring": ring_formed, "table": table_formed}

@@ -6,12 +6,13 @@ import unittest
 from itertools import permutations
 
 from fifthhost import errors
-from tests.common import FULL_40, NET_ERRORS, R, S, TEN, TRIANGLES, Case, alike, frozen, plain
+from tests.common import BROAD, DEEP, FULL_40, NAN, NET_ERRORS, R, S, TEN, TRIANGLES, Case, alike, frozen, plain
 from tests.housesets import H, WHOLE_R
 from tests.lettersets import A, B, C, STORY
 from tests.rulesets import RING_RULE, SEAM_RULE
 
 RESTORES = ((2, (3,)),)
+EVENTS = (("begin", 0, None), ("put", 0, 5, -7, 11), ("change", 1, (1,) * 5, 3, None), ("read", 0, 0, 0), ("cut", 0, 2))
 MOMENTS = (WHOLE_R, ((0, 1), (2, 3, 4)), ((1, 2),))
 
 # For each file its functions, each with the names of its arguments, right ones, and wrong ones for all but the net.
@@ -154,11 +155,47 @@ FUNCTIONS = {
         "made_record": ("thing", ((A, B, C),), ()),
         "record_right": ("net rule record", (R, RING_RULE, (A, B, C)), (["one", 0], [(A, B, C)])),
     },
+    "events": {
+        "made_story": ("thing", (EVENTS,), ()),
+    },
+    "stories": {
+        "run": ("net rule story", (R, RING_RULE, EVENTS), (["one", 0], [EVENTS])),
+    },
+    "nettexts": {
+        "net_text": ("net", (TEN,), ()),
+        "read_net": ("text", ("need 2\nhost 0 votes 1",), ()),
+    },
+    "ruletexts": {
+        "rule_text": ("net rule", (TRIANGLES, SEAM_RULE), (["one", 0],)),
+        "read_rule": ("net text", (R, "has 0 1 ( table )"), (["one 0"],)),
+    },
+    "storytexts": {
+        "story_text": ("story", (EVENTS,), ()),
+        "read_story": ("text", ("begin 0\nput 0 5 7",), ()),
+    },
+    "lettertexts": {
+        "letters_text": ("letters", (STORY,), ()),
+        "read_letters": ("text", ("hear none\nhear none",), ()),
+    },
 }
 JUDGES = ("is_net", "ring_right", "packing_right", "is_seam", "is_rule", "is_right", "is_hard", "allowed", "loss_right",
           "record_right")
+# The classes of the interface, each with its file, the arguments of its methods, and what it is made of.
+CLASSES = {
+    "Falling": ("falling", {"parts": "", "reserve": "x", "log": "x", "cut": "a b"}, (R,)),
+    "Cluster": ("cluster", {
+        "cut": "a b", "mend": "a b", "down": "x", "up": "x", "wipe": "x", "parts": "", "part": "x", "state": "x", "link": "a b",
+        "edition": "x", "cell": "x name", "heard": "x", "begin": "x letters", "put": "x key value letters", "share": "x",
+        "read": "x name", "known": "x", "show": "x key", "final": "name number place", "record": "",
+        "change": "x votes need letters", "book": "x e", "editions": "", "sealed": "e", "ends": "e", "restore": "x y",
+        "letters": "x", "forget": "x"}, (R, RING_RULE, RESTORES)),
+    "Desk": ("desk", {"say": "row"}, ()),
+}
 NO_NET_WANTED = JUDGES + ("apart", "walk", "ring_numbers", "ring_deal", "fewest", "hued", "knows_right", "row_right",
-                          "cell_right", "made_letters", "replay", "covers", "fork", "spread", "chains", "made_record")
+                          "cell_right", "made_letters", "replay", "covers", "fork", "spread", "chains", "made_record", "made_story",
+                          "read_net", "story_text", "read_story", "letters_text", "read_letters")
+# What is right nowhere.
+ODD = (None, 1.5, NAN, "", "one", [], [()], [1, [2]], DEEP, BROAD)
 
 
 def functions():
@@ -238,6 +275,30 @@ class Calls(Case):
                     if wrong:
                         self.tells(False, function, net, *wrong)
                         self.tells(False, function, right[0], *wrong)
+
+    def test_judges_answer_false_of_odd_things_in_any_place(self):
+        judges = [row for row in functions() if row[1].startswith("is_") or row[1].endswith("_right") or row[1] == "allowed"]
+        self.assertEqual({row[1] for row in judges}, set(JUDGES) | {"knows_right", "row_right", "cell_right"})
+        for _, name, function, _, right, _ in judges:
+            self.tells(True, function, *right)
+            for index in range(len(right)):
+                for odd in ODD:
+                    self.tells(False, function, *right[:index], odd, *right[index + 1:])
+                    self.tells(False, function, *[odd] * len(right))
+
+    def test_classes(self):
+        for name, (file, methods, args) in CLASSES.items():
+            one = getattr(importlib.import_module("fifthhost." + file), name)
+            self.assertEqual((one.__module__, one.__name__), ("fifthhost." + file, name))
+            self.assertIn("__init__", vars(one))
+            self.assertIsInstance(one(*args), one)
+            for method, words in methods.items():
+                self.assertTrue(inspect.isfunction(vars(one)[method]), method)
+                told = list(inspect.signature(vars(one)[method]).parameters.values())[1:]
+                self.assertEqual(" ".join(parameter.name for parameter in told), words)
+                for parameter in told:
+                    wanted = None if parameter.name == "letters" else parameter.empty
+                    self.assertEqual((parameter.kind, parameter.default), (parameter.POSITIONAL_OR_KEYWORD, wanted))
 
     def test_the_same_again_with_other_calls_between(self):
         rows = [(function, right) for _, _, function, _, right, _ in functions()]

@@ -46,6 +46,10 @@ class Errors(unittest.TestCase):
                 self.assertIs(error(what).what, what)
                 self.assertIs(error(what=what).what, what)
 
+    def test_what_it_is_called_is_kept_as_well(self):
+        for name in NAMES + ["Refused"]:
+            self.assertEqual(getattr(errors, name)(7).name, name)
+
     def test_what_is_kept_for_one_error_alone(self):
         one = BadNet(1)
         two = BadNet(2)

@@ -15,7 +15,7 @@ all divmod map iter next type super ValueError KeyError ZeroDivisionError TypeEr
 LET_METHODS = """
 append clear copy count endswith extend find get index insert isalnum isalpha isdigit islower isspace isupper items join
 keys ljust lower lstrip partition pop remove replace reverse rfind rjust rpartition rsplit rstrip setdefault split
-splitlines startswith strip update upper values zfill bit_length sort add discard
+splitlines startswith strip update upper values zfill bit_length sort add discard isascii __class__ __name__
 """.split()
 LET_LIBRARY = ("heapq", "math", "itertools", "collections")
 

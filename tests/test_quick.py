@@ -13,6 +13,7 @@ from fifthhost.chains import chains, spread
 from fifthhost.cluster import Cluster
 from fifthhost.counts import logs, once
 from fifthhost.dealing import log_of
+from fifthhost.desk import Desk
 from fifthhost.disks import made_letters, replay
 from fifthhost.errors import Refused
 from fifthhost.falling import Falling
@@ -20,6 +21,7 @@ from fifthhost.hardlots import hard, is_hard
 from fifthhost.houses import made_house
 from fifthhost.hues import fewest, hued
 from fifthhost.judged import clash, is_right, used
+from fifthhost.lettertexts import letters_text, read_letters
 from fifthhost.listing import least_working, lots, working
 from fifthhost.longrings import long_ring, ring_right, some_ring
 from fifthhost.lots import apart, hangs, pieces, votes_of, whole, works
@@ -27,14 +29,18 @@ from fifthhost.making import rule_of
 from fifthhost.netedits import beside, cut_net, renamed, with_host, with_link, with_need, with_votes, without_host
 from fifthhost.netedits import without_link
 from fifthhost.nets import is_net, made_net
+from fifthhost.nettexts import net_text, read_net
 from fifthhost.packings import packing, packing_right
 from fifthhost.playing import forked, made_moments, play
 from fifthhost.readers import commands, meets_all, meets_log, unseen
 from fifthhost.records import record_right
 from fifthhost.restores import allowed, forgetful, harmful, loss, loss_right, lost, made_restores
 from fifthhost.rules import is_rule, made_rule
+from fifthhost.ruletexts import read_rule, rule_text
 from fifthhost.seams import beyond, inner, is_seam, threshold
 from fifthhost.several import each
+from fifthhost.stories import run
+from fifthhost.storytexts import read_story, story_text
 from fifthhost.walks import ring_deal, ring_numbers, walk
 from tests.common import (BARE_40, BROAD, FULL_40, LARGE, LARGE_40, RING_40, RINGS, apart_pairs, chained, full_net,
                           hubs_net, linked_net)
@@ -64,6 +70,8 @@ MOMENTS_400 = (tuple((x,) for x in range(35)),) * 400
 # Restores of the row of hosts in which the others follow one another, as they do in most of these nets.
 RESTORES_200 = (tuple((x, (x + 1,)) for x in range(39)) * 6)[:200]
 
+STORY_400 = (("begin", 0, None), ("put", 0, 5, 10 ** 4198, None), ("share", 1), ("change", 1, (1,) * 40, 20, None)) * 100
+
 CALLS = (
     (made_net,), (is_net,), (with_votes, 39, LARGE), (with_need, HUGE), (with_link, 0, 39), (without_link, 0, 39),
     (with_host, 0), (cut_net, ALL_40), (without_host, 20), (renamed, ALL_40[::-1]), (beside, ((), (), 3)),
@@ -77,7 +85,8 @@ CALLS = (
     (forked, HOUSE_40, MOMENTS_400), (broken, ()), (shattered, ((0,),)), (Falling,), (Cluster, ZERO),
     (Cluster, rule_with(400), RESTORES_200), (made_restores, RESTORES_200), (allowed, 0, (1,)), (allowed, 39, ALL_40[:39]),
     (lost, RESTORES_200, ALL_40), (loss, RESTORES_200, ALL_40[1:]), (loss_right, RESTORES_200, ALL_40, RESTORES_200),
-    (harmful, ZERO, RESTORES_200), (forgetful, RESTORES_200), (record_right, ZERO, ()),
+    (harmful, ZERO, RESTORES_200), (forgetful, RESTORES_200), (record_right, ZERO, ()), (net_text,),
+    (rule_text, rule_with(400)), (read_rule, "has 0 0 ( " * 60 + "one 0" + " )" * 60), (run, ZERO, STORY_400),
 )
 # Sixty seams, one within another, each of which asks the votes of all other hosts.
 SEAMS_60 = ZERO
@@ -289,6 +298,34 @@ class Quick(unittest.TestCase):
                 self.within(function, record)
             for net in (((HUGE,) * 9, tuple(combinations(range(9), 2)), HUGE), FULL_40):
                 self.within(record_right, net, ZERO, record)
+
+    def test_texts(self):
+        lots = [",".join(map(str, lot)) for size in (1, 2, 3) for lot in combinations(range(40), size)]
+        row = "1/5/7/" + "+".join(f"0.{l}.1.1" for l in range(1000))
+        for text in ("\n" * 200000, " " * 200000, "1" * 200000, "need 1" + "\nhost 0 votes 1" * 9999, "has 0 0 ( " * 20000,
+                     "table " + " 0 ".join(lots) + " 0", "table " + "0," * 99990, "hear none\n" * 20000, "share 0\n" * 25000,
+                     "hear " + "0.0.1.1+" * 24990 + "\n", f"take 0 0 1 0 {row}|{row}|{row}\n", "copy" + " 0 0 0 0 none none 0 1 1 ;" * 7000,
+                     "change 0 " + "1," * 99990 + "1 2", "x" * 300000):
+            for function, *others in ((read_net,), (read_rule, FULL_40), (read_story,), (read_letters,)):
+                self.within(function, *others, text)
+        self.within(net_text, HUGE_40)
+        self.within(rule_text, HUGE_40, SEAMS_60)
+        self.within(story_text, (("change", 0, (HUGE,) * 100, HUGE, None),) * 20)
+        self.within(letters_text, (("hear", tuple((0, l, HUGE, 1) for l in range(1000))),))
+        self.within(letters_text, (("take", (0, 0), 1, (0,), ((1, 0, 7, ()),) * 100),) * 400)
+
+    def test_desks(self):
+        names = ["abcdefgh"[x // 8] + "klmnopqr"[x % 8] for x in range(40)]
+        for net in (RING_40, CHAIN_40, GRID_40, STAR_40, FULL_40):
+            desk = Desk()
+            for row in [f"host {name} {'9' * 40}" for name in names] + [f"need {'9' * 40}"]:
+                self.within(desk.say, row)
+            for a, b in net[1]:
+                self.within(desk.say, f"link {names[a]} {names[b]}")
+            for row in ("once", "logs", "each 99", "long", "cuts", "captains", "blocks", "packing", "rule", "net", "undo", "redo",
+                        "log " + " ".join(names), "works " + " ".join(names), "commands ak", "unseen ak",
+                        "seam ak logs " + " ".join(names[1:]), "drop ak", "x" * 2000, " " * 2000, "works " + " ".join(names * 16)):
+                self.within(desk.say, row)
 
     def test_nine_hosts(self):
         votes = tuple(LARGE + x for x in range(9))
