@@ -1,8 +1,9 @@
 """Rings of a net, and long rings, which have five hosts or more."""
 
-from fifthhost.bits import every_host, least_host, lot_of, many_bits, near_of, without_pair
+from fifthhost.bits import every_host, least_host, lot_of, many_bits, near_of, piece_within
 from fifthhost.blocks import blocks_within, kind_of, linked_within, round_from
 from fifthhost.forms import number_below
+from fifthhost.hueing import paired_with
 from fifthhost.nets import is_net, made_net
 
 LEAST_RING = 3
@@ -61,12 +62,10 @@ def long_ring(net):
     """Any ring of five hosts or more; None if there is none."""
     made_net(net)
     near = near_of(net)
-    if not has_long(near, every_host(near)):
-        return None
-    bits = long_hosts(near)
-    near = long_links(near, bits)
-    # What cannot lose a host or a link without losing its long rings is one long ring and nothing else.
-    return round_from(linked_within(near, lot_of(bits)), least_host(bits))
+    for block in blocks_within(near, every_host(near)):
+        if long_block(near, block):
+            return long_ring_of(near, block)
+    return None
 
 
 def has_long(near, bits):
@@ -81,20 +80,56 @@ def long_block(near, block):
     return told == "other" or told == "ring" and len(linked) >= LEAST_LONG
 
 
-def long_hosts(near):
-    """Hosts that have a long ring, but would not without any one of them."""
-    bits = every_host(near)
-    for x in range(len(near)):
-        if has_long(near, bits ^ (1 << x)):
-            bits ^= 1 << x
-    return bits
+def long_ring_of(near, block):
+    """A long ring of a block that has one."""
+    linked = linked_within(near, lot_of(block))
+    if kind_of(linked) == "ring":
+        return round_from(linked, least_host(block))
+    # A link over which no long ring goes has its ends on each long ring, and none has more than six hosts then, so that
+    # there are nine such links at most.
+    links = [(a, b) for a in linked for b in linked[a] if a < b]
+    found = None
+    while found is None:
+        a, b = links.pop()
+        found = long_ring_over(near, block, a, b)
+    return found
 
 
-def long_links(near, bits):
-    """For each host its links, when all links are taken away without which the hosts of bits still have a long ring."""
-    for a in lot_of(bits):
-        for b in lot_of(near[a] & bits):
-            less = without_pair(near, a, b)
-            if has_long(less, bits):
-                near = less
-    return near
+def long_ring_over(near, block, a, b):
+    """A long ring of the hosts of a block that goes over the link of a and b; None if there is none."""
+    others = block & ~(1 << a) & ~(1 << b)
+    for c in lot_of(near[a] & others):
+        rest = others ^ (1 << c)
+        left = near[c] & rest
+        while left:
+            piece = piece_within(near, rest, left & -left)
+            row = row_between(near, piece, near[c], near[b])
+            if row is not None:
+                return (b, a, c) + row
+            left &= ~piece
+    return None
+
+
+def row_between(near, piece, begins, ends):
+    """Two hosts or more of a piece, each linked to the next one, from one of begins to one of ends; None if none do."""
+    begins &= piece
+    ends &= piece
+    if not begins or not ends or many_bits(begins | ends) < 2:
+        return None
+    # One of the two is chosen so that something else is left for the other one.
+    begin = least_host(begins & ~ends if begins & ~ends else begins)
+    end = least_host(ends & ~(1 << begin))
+    return shortest_row(near, piece, begin, end)
+
+
+def shortest_row(near, piece, begin, end):
+    """As few hosts of a piece as can be, each linked to the next one, from the one host to the other."""
+    layers = [1 << begin]
+    met = layers[0]
+    while not (met >> end) & 1:
+        layers.append(paired_with(near, layers[-1]) & piece & ~met)
+        met |= layers[-1]
+    row = [end]
+    for layer in reversed(layers[:-1]):
+        row.append(least_host(layer & near[row[-1]]))
+    return tuple(row[::-1])

@@ -2,13 +2,15 @@
 
 import unittest
 from itertools import combinations, permutations
+from random import Random
+from time import perf_counter
 
 from fifthhost.blocks import blocks, kind
 from fifthhost.longrings import long_ring, ring_right, some_ring
 from fifthhost.netedits import beside, renamed, with_link, without_link
 from tests.common import (BARE_40, BROAD, DEEP, EMPTY, FULL_40, LARGE_40, NAN, NET_ERRORS, NO_NUMBERS, NO_TUPLES, ONE,
                           R, RING_40, RINGS, S, TRIANGLES, Case, all_nets, alike, chained, full_net, hubs_net,
-                          linked_net, round_net, some_nets)
+                          linked_net, plain, round_net, some_nets)
 
 FULL_5 = full_net(5)
 ALL_40 = tuple(range(40))
@@ -133,6 +135,92 @@ class Rings(Case):
         self.a_ring(linked_net(6, [(0, 1), (1, 2), (2, 3), (3, 4), (4, 5), (0, 5), (0, 3)]), 5)
         self.a_ring(chained([hubs_net(20), hubs_net(11), R, full_net(4)]), 5)
         self.a_ring(RINGS, 5)
+
+
+    def test_a_link_that_no_long_ring_goes_over(self):
+        # Chords of rings of five and six hosts, which stand first and last among the links.
+        for net in (with_link(R, 0, 2), with_link(R, 2, 4), with_link(with_link(R, 0, 2), 2, 4),
+                    with_link(round_net((1,) * 6, 1), 0, 3), with_link(round_net((1,) * 6, 1), 2, 5),
+                    linked_net(6, [(0, 1), (1, 2), (2, 3), (3, 4), (4, 5), (0, 5), (0, 3), (1, 4), (2, 5)])):
+            many = len(net[0])
+            for order in permutations(range(many)):
+                self.a_ring(renamed(net, order), 5)
+
+    def test_blocks_of_the_kind_other(self):
+        for net in some_nets(77, 400, (5, 6, 7)):
+            if any(kind(net, block) == "other" for block in blocks(net)):
+                self.a_ring(net, 5)
+
+
+def hung(chance, many, rings):
+    """A net of so many hosts: rings at one another or at one host, the other hosts hung to them, all renamed."""
+    links, first = set(), 1
+    for size in rings:
+        row = [chance.randrange(first) if chance.random() < 0.7 else 0] + list(range(first, first + size - 1))
+        links |= {tuple(sorted((row[i - 1], row[i]))) for i in range(size)}
+        first += size - 1
+    links |= {(chance.randrange(x), x) for x in range(first, many)}
+    order = chance.sample(range(many), many)
+    return renamed(linked_net(many, links), tuple(order))
+
+
+class LongRingsQuickly(Case):
+
+    def check_hundred(self, nets):
+        """A hundred calls together take no longer than a moment, and each tells a long ring, link by link."""
+        nets = (list(nets) * 100)[:100]
+        begin = perf_counter()
+        told = [long_ring(net) for net in nets]
+        self.assertLess(perf_counter() - begin, 1.5)
+        for net, row in zip(nets, told):
+            self.assertGreaterEqual(len(row), 5)
+            self.assertTrue(slow_ring(net, row), row)
+            self.assertTrue(plain(row))
+        self.assertTrue(alike(told[:5], [long_ring(net) for net in nets[:5]]))
+
+    def test_one_ring(self):
+        for many in (5, 20, 40):
+            self.check_hundred([round_net((1,) * many, 2)])
+        self.check_hundred([((1,) * 40, RING_40[1], 2)])
+
+    def test_rings_with_hosts_hung_to_them(self):
+        chance = Random(4)
+        self.check_hundred([hung(chance, 40, [chance.randint(5, 40)]) for _ in range(100)])
+
+    def test_several_rings_at_one_host_and_at_one_another(self):
+        chance = Random(5)
+        for rings in ((5, 5, 5), (3, 3, 3, 20), (4, 4, 4, 4, 4, 4, 5), (14, 14, 14), (3, 37), (20, 3, 4, 3, 4, 3)):
+            self.check_hundred([hung(chance, 40, chance.sample(rings, len(rings))) for _ in range(100)])
+
+    def test_all_linked_and_rings_with_links_across(self):
+        self.check_hundred([FULL_40, LARGE_40])
+        chance = Random(6)
+        pairs = list(combinations(range(40), 2))
+        for many in (1, 2, 10, 30, 300):
+            self.check_hundred([linked_net(40, set(RING_40[1]) | set(chance.sample(pairs, many))) for _ in range(100)])
+
+    def test_hosts_put_into_the_middle_of_links(self):
+        chance = Random(7)
+        nets = []
+        for _ in range(100):
+            links = set(combinations(range(6), 2))
+            for x in range(6, 40):
+                a, b = chance.choice(sorted(links))
+                links = links - {(a, b)} | {(a, x), (b, x)}
+            nets.append(linked_net(40, links))
+        self.check_hundred(nets)
+
+    def test_blocks_that_nearly_have_hubs(self):
+        self.check_hundred([linked_net(40, set(hubs_net(40, linked=linked)[1]) | {pair})
+                            for linked in (False, True) for pair in ((2, 3), (2, 39), (38, 39))])
+
+    def test_none_as_quickly(self):
+        nets = [hubs_net(40), hubs_net(40, linked=True), chained([full_net(4)] * 13), chained([round_net((1,) * 4, 1)] * 13), BARE_40,
+                linked_net(40, [(x, x + 1) for x in range(39)])]
+        begin = perf_counter()
+        for net in (nets * 17)[:100]:
+            self.tells(None, long_ring, net)
+        self.assertLess(perf_counter() - begin, 1.5)
 
 
 class RingRight(Case):
