@@ -103,7 +103,7 @@ def long_ring_over(near, block, a, b):
         left = near[c] & rest
         while left:
             piece = piece_within(near, rest, left & -left)
-            row = row_between(near, piece, near[c], near[b])
+            row = row_between(near, piece, near[c] & piece, near[b])
             if row is not None:
                 return (b, a, c) + row
             left &= ~piece
@@ -112,9 +112,8 @@ def long_ring_over(near, block, a, b):
 
 def row_between(near, piece, begins, ends):
     """Two hosts or more of a piece, each linked to the next one, from one of begins to one of ends; None if none do."""
-    begins &= piece
     ends &= piece
-    if not begins or not ends or many_bits(begins | ends) < 2:
+    if not ends or many_bits(begins | ends) < 2:
         return None
     # One of the two is chosen so that something else is left for the other one.
     begin = least_host(begins & ~ends if begins & ~ends else begins)

@@ -105,7 +105,7 @@ def opened_as(disks, name, lot):
 
 
 def rows_with_key(disks, key):
-    """The triples (name, place, row) of the rows of the fullest cells that have a key."""
+    """The triples (name, place, row) of the rows of the fullest cells that have a key, rising by name and place."""
     found = []
     for name in all_names(disks):
         for place, row in enumerate(fullest_cell(disks, name)[3]):
@@ -115,7 +115,7 @@ def rows_with_key(disks, key):
 
 
 def uncovered(found):
-    """Of the rows told as triples those that no other one of them covers, as (e, l, place, number, value), rising."""
+    """Of the rows told as triples those that no other one of them covers, each as (e, l, place, number, value)."""
     told = {}
     for index, (_, _, row) in enumerate(found):
         for e, l, number, length in row[3]:
@@ -127,7 +127,7 @@ def uncovered(found):
         pair = (row[0], place + 1)
         if not any([rank[:2] >= pair and rank[2] != index for rank in greatest.get(name, [])]):
             shown.append(name + (place, row[0], row[2]))
-    return tuple(sorted(shown))
+    return tuple(shown)
 
 
 def last_pairs(disks, e):

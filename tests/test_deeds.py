@@ -5,8 +5,8 @@ from random import Random
 
 from fifthhost.cluster import Cluster
 from fifthhost.errors import BadLetters, NotOpen
-from tests.clustersets import FOUR, LINE, NETS, Twins, some_deed
-from tests.common import R, TRIANGLES, Case, full_net, linked_net
+from tests.clustersets import DEEDS, FOUR, LINE, NETS, Twins, some_deed
+from tests.common import R, TRIANGLES, Case, full_net, linked_net, slow_working
 from tests.rulesets import RING_RULE, ZERO
 
 ALL_4 = (0, 1, 2, 3)
@@ -152,6 +152,59 @@ class Deeds(Case):
         self.tells(((0, 0, 1, 2),), c.heard, 3)
         self.assertEqual(twins.do("put", 2, 5, 3), 2)
         twins.same()
+
+    def test_the_greatest_taken_and_not_the_greatest_promise(self):
+        twins = Twins(self, full_net(4, 3))
+        c = twins.one
+        for word, *args in (("begin", 0), ("put", 0, 5, 1), ("put", 0, 5, 2, 5), ("cut", 0, 1), ("cut", 0, 2), ("cut", 0, 3),
+                            ("begin", 1, 3), ("mend", 0, 1)):
+            twins.do(word, *args)
+        self.assertEqual([(c.cell(x, NAME)[:2], len(c.cell(x, NAME)[3])) for x in ALL_4], [((1, 1), 2)] + [((2, 1), 1)] * 3)
+        self.assertEqual(len(c.read(3, NAME)[0]), 2)
+        self.assertEqual(twins.do("begin", 3), 3)
+        self.assertEqual([len(c.cell(x, NAME)[3]) for x in ALL_4], [2, 2, 2, 2])
+        twins.same()
+
+    def test_a_row_that_covers_itself(self):
+        # By a rule that is wrong (0, 1) and (2, 3) have one name, and (1, 2) carries news of a great number from one to the other.
+        for l, last in ((0, 2), (1, 0)):
+            rule = ("table", (((0, 1), l), ((1, 2), 3), ((2, 3), l), ((3, 4), last), ((2, 3, 4), 4)))
+            twins = Twins(self, R, rule)
+            c = twins.one
+            for word, *args in (("cut", 1, 2), ("cut", 0, 4), ("cut", 3, 4), ("begin", 0), ("begin", 0), ("begin", 0), ("put", 0, 5, 1),
+                                ("mend", 1, 2), ("cut", 0, 1), ("cut", 2, 3), ("begin", 1), ("put", 1, 7, 2), ("cut", 1, 2),
+                                ("mend", 2, 3), ("begin", 2), ("put", 2, 5, 3)):
+                twins.do(word, *args)
+            self.assertEqual(c.record()[-1], ((2, 3), (0, l), 0, 1, 5, 3, ((0, l, 3, 1), (0, 3, 1, 1))))
+            self.tells(((0, l, 0, 1, 3),), c.show, 2, 5)
+            # Another row that covers it hides it, though it knows no more.
+            for word, *args in (("cut", 2, 3), ("mend", 3, 4), ("begin", 3), ("put", 3, 5, 4), ("mend", 2, 3)):
+                twins.do(word, *args)
+            self.tells(((0, last, 0, 1, 4),), c.show, 2, 5)
+            twins.same(1, 4)
+
+    def test_a_row_just_behind_what_another_one_knows(self):
+        twins = Twins(self, LINE)
+        c = twins.one
+        for word, *args in (("cut", 1, 2), ("begin", 0), ("put", 0, 5, 1), ("mend", 1, 2), ("share", 0), ("cut", 1, 2),
+                            ("put", 0, 5, 2), ("begin", 2), ("put", 2, 5, 3), ("mend", 1, 2)):
+            twins.do(word, *args)
+        self.assertEqual([row[4] for row in c.show(0, 5)], [2, 3] if c.record()[0][1] < c.record()[2][1] else [3, 2])
+        twins.same()
+
+    def test_stories_with_rules_that_are_wrong(self):
+        for seed in range(40):
+            chance = Random(seed)
+            net = chance.choice((R, FOUR, LINE, TRIANGLES))
+            rule = ("table", tuple((lot, chance.randrange(2)) for lot in slow_working(net)))
+            twins = Twins(self, net, rule)
+            for step in range(60):
+                twins.ask(*some_deed(chance, twins.one, DEEDS + ["forget"]))
+                if step % 6 == 5:
+                    for x in range(len(net[0])):
+                        twins.ask("show", x, 5)
+                        twins.ask("known", x)
+            twins.same()
 
     def test_the_least_host_of_several(self):
         # By a rule that is wrong (0, 1) and (2, 3) write unlike rows at one place of one name.

@@ -128,6 +128,22 @@ class Changes(Case):
         self.assertEqual(twins.do("change", 3, ONES, 2), (1, (2, 0, 0, 0), 2))
         twins.same()
 
+    def test_the_greatest_taken_and_not_the_greatest_promise(self):
+        twins = Twins(self, FOUR)
+        c = twins.one
+        self.assertIsNone(twins.do("change", 0, (5, 0, 0, 0), 1, 5))
+        for x in (1, 2, 3):
+            twins.do("cut", 0, x)
+        self.assertIsNone(twins.do("change", 1, (2, 0, 0, 0), 2, 5))
+        for x in (1, 2, 3):
+            twins.do("mend", 0, x)
+        # The one letter that comes lets 0 promise more, though what it took is the elder proposal.
+        self.assertIsNone(twins.do("change", 0, ONES, 2, 1))
+        self.tells((3, 1, ((5, 0, 0, 0), 1, ())), c.book, 0, 0)
+        self.tells((2, 2, ((2, 0, 0, 0), 2, ())), c.book, 1, 0)
+        self.assertEqual(twins.do("change", 3, ONES, 2), (1, (2, 0, 0, 0), 2))
+        twins.same()
+
     def test_no_votes_and_a_need_above_all(self):
         for votes, need in (((0, 0, 0, 0), 1), (ONES, 5), (ONES, LARGE)):
             twins = Twins(self, FOUR)
@@ -184,6 +200,20 @@ class Changes(Case):
         twins.do("down", 2)
         twins.do("wipe", 2)
         self.refuses(NotSealed, 0, c.ends, 0)
+        twins.same()
+
+    def test_a_host_that_knows_no_more_brings_no_end(self):
+        twins = Twins(self, full_net(4, 3))
+        c = twins.one
+        twins.do("begin", 0)
+        twins.do("put", 0, 5, 7)
+        # 0 alone holds a second row, and does not hear of the change.
+        twins.do("put", 0, 5, 8, 5)
+        for x in (1, 2, 3):
+            twins.do("cut", 0, x)
+        twins.do("change", 1, ONES, 2)
+        self.assertEqual([len(c.cell(x, (0, 0))[3]) for x in range(4)], [2, 1, 1, 1])
+        self.tells(((0, 1, 1),), c.ends, 0)
         twins.same()
 
     def test_editions_behind_wipes(self):

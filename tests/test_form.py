@@ -127,6 +127,49 @@ class Form(unittest.TestCase):
                 if isinstance(node, ast.FunctionDef):
                     self.assertEqual(node.decorator_list, [], (name, node.name))
 
+    def test_is_stands_beside_none_alone(self):
+        for name, tree in TREES.items():
+            for node in ast.walk(tree):
+                if isinstance(node, ast.Compare) and any(isinstance(op, (ast.Is, ast.IsNot)) for op in node.ops):
+                    other = node.comparators[0]
+                    kind = isinstance(node.left, ast.Call) and node.left.func.id == "type" and other.id in LET_BUILTINS
+                    self.assertTrue(kind or isinstance(other, ast.Constant) and other.value is None, (name, node.lineno))
+
+    def test_methods_and_attributes_have_unlike_names(self):
+        for name, tree in TREES.items():
+            for one in tree.body:
+                if isinstance(one, ast.ClassDef):
+                    methods = [node.name for node in one.body if isinstance(node, ast.FunctionDef)]
+                    self.assertEqual(len(methods), len(set(methods)), (name, one.name))
+                    stored = {node.attr for node in ast.walk(one) if isinstance(node, ast.Attribute) and isinstance(node.ctx, ast.Store)}
+                    self.assertEqual(stored & set(methods), set(), (name, one.name))
+                    self.assertFalse(any(method in vars(builtins) for method in methods if method != "__init__"), one.name)
+
+    def test_signs_of_strings(self):
+        for name, tree in TREES.items():
+            for node in ast.walk(tree):
+                if isinstance(node, ast.Constant) and isinstance(node.value, str):
+                    self.assertNotIn("%", node.value, (name, node.lineno))
+                    self.assertNotIn("__", node.value, (name, node.lineno))
+
+    def test_errors_that_are_caught_and_raised(self):
+        known = {node.name for node in TREES["errors"].body if isinstance(node, ast.ClassDef)}
+        for name, tree in TREES.items():
+            for node in ast.walk(tree):
+                if isinstance(node, ast.ExceptHandler):
+                    self.assertIn(node.type.id, known, (name, node.lineno))
+                if isinstance(node, ast.Raise):
+                    self.assertIn(node.exc.func.id, known, (name, node.lineno))
+                    self.assertEqual((len(node.exc.args), node.exc.keywords), (1, []), (name, node.lineno))
+
+    def test_stars_of_calls_stand_over_names(self):
+        for name, tree in TREES.items():
+            for node in ast.walk(tree):
+                if isinstance(node, ast.Call):
+                    stars = [one.value for one in node.args if isinstance(one, ast.Starred)]
+                    self.assertTrue(all(isinstance(one, ast.Name) for one in stars), (name, node.lineno))
+                    self.assertTrue(all(one.arg is not None for one in node.keywords), (name, node.lineno))
+
     def test_no_local_name_is_that_of_an_import_or_a_class(self):
         for name, tree in TREES.items():
             outer = {word for _, word in imported(tree)}

@@ -334,6 +334,22 @@ class Judged(Case):
         late = with_part(A, 3, 3)
         self.tells(False, record_right, R, RING_RULE, (late, ((0, 1), (0, 0), 1, 2, 0, 0, ((0, 0, 3, 1),))))
 
+    def test_numbers_of_lots_without_a_common_host(self):
+        # By a rule that is wrong two lots that are apart have one name, and need not know of one another.
+        for number, told in ((3, True), (4, True), (2, False), (1, False)):
+            record = (((0, 1), (0, 0), 0, 3, 5, 7, ()), ((2, 3), (0, 0), 1, number, 5, 7, ()))
+            self.tells(told, record_right, R, ZERO, record)
+        for place, told in ((1, True), (2, True), (0, False)):
+            record = (((0, 1), (0, 0), 0, 3, 5, 7, ()), ((2, 3), (0, 0), place, 3, 5, 7, ()))
+            self.tells(told, record_right, R, ZERO, record)
+
+    def test_what_is_covered_by_an_entry_that_is_covered(self):
+        one = ((0, 4), (0, 2), 0, 1, 5, 1, ())
+        two = ((0, 1), (0, 0), 0, 1, 5, 2, ((0, 2, 1, 1),))
+        for knows, told in ((((0, 0, 1, 1), (0, 2, 1, 1)), True), (((0, 0, 1, 1),), False)):
+            # The lots of the first and the last entry have no common host.
+            self.tells(told, record_right, R, RING_RULE, (one, two, ((1, 2), (0, 0), 1, 1, 5, 3, knows)))
+
     def test_odd_things(self):
         for net, _, _ in NET_ERRORS:
             self.tells(False, record_right, net, ZERO, ())

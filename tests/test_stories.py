@@ -32,7 +32,7 @@ def wrong_events():
     """Events with one part wrong each, and what is no event at all."""
     for event in RIGHT:
         yield from (event[:-1], event + (0,), event + (None,), list(event), (event,), event[1:])
-        for word in ("", "CUT", "cuts", "open", "cut ", b"cut", None, 0, True, (), ("cut",), DEEP):
+        for word in ("", "CUT", "cuts", "open", "cut ", b"cut", None, 0, True, (), ("cut",), ["cut"], DEEP):
             yield (word,) + event[1:]
         for index, sign in enumerate(SIGNS[event[0]]):
             wrong = {"n": NO_INTS + (None,), "l": NO_INTS, "v": (None, 5, 1.0, True, "", "1", [], [1], (None,), (1, True), (1, 1.0),
